@@ -1,0 +1,123 @@
+"""What the tests share: machines, values of every kind, and plain models to compare with."""
+
+import itertools
+import random
+import unittest
+
+from textmovers.machine.machines import Machine
+
+SWAP = (1, 0)
+STAY = (0, 1)
+
+ODD = Machine(2, {"a": (SWAP, ("e", "a")), "e": (STAY, ("e", "e"))})
+GRAY = Machine(2, {"a": (SWAP, ("e", "e")), "b": (STAY, ("b", "a")), "e": (STAY, ("e", "e"))})
+HANOI = Machine(3, {
+    "a": ((1, 0, 2), ("e", "e", "a")),
+    "b": ((2, 1, 0), ("e", "b", "e")),
+    "c": ((0, 2, 1), ("c", "e", "e")),
+    "e": ((0, 1, 2), ("e", "e", "e")),
+})
+LAMP = Machine(2, {"a": (SWAP, ("a", "b")), "b": (STAY, ("a", "b"))})
+FOLDED = Machine(2, {"a": (SWAP, ("e", "b")), "b": (STAY, ("e", "a")), "e": (STAY, ("e", "e"))})
+
+
+def nested(kind, deep):
+    """A value of tuples, lists or dicts, one in another."""
+    value = 0
+    for _ in range(deep):
+        value = {"a": value} if kind is dict else kind([value])
+    return value
+
+
+BIG = 10 ** 99
+
+# Values of all kinds that a call may be passed, none of them fit for every place.
+VALUES = [
+    None, True, False, 0, 1, -1, 2, 3, 4, 5, 8, 60, 61, 100, 101, 200, 201, -100, -101,
+    10 ** 59, 10 ** 60 - 1, 10 ** 60, -10 ** 60, BIG, -BIG,
+    "", "0", "1", "01", "012", "3", "a", "e", "q", "A", "ab", "a b", "a\n", "\n", " ", "a" * 8, "a" * 9,
+    "0" * 200, "0" * 201, "x" * 3000, "idle",
+    (), (0,), (1,), (0, 1), (1, 0), (True, False), (0, 1, 2), (0, 0), (1, 2), (0, 1, 2, 3), (BIG, -BIG),
+    ("a",), ("a", "e"), ("a", 1), (("a", 1),), (("a", 0),), (("a", True),), ((0, 1), ("a", "a")), (None, None),
+    ((0, 1), (0, 0)), (((0, 1), (0, 0)),), ("apart", "0"), ("alike", (("a", "a"),)),
+    [], [0], [0, 1], ["a"], [("a", 1)], [["a", 1]],
+    {}, {"a": "e"}, {"a": 1}, {1: "a"}, {"a": ((0, 1), ("a", "a"))}, {"a": [(0, 1), ("a", "a")]}, {(): ()},
+    nested(tuple, 10), nested(list, 10), nested(dict, 10),
+    ODD, HANOI,
+]
+
+# Those among them that are no integer from 2 to 4.
+NO_LETTERS = [value for value in VALUES if type(value) is not int or not 2 <= value <= 4]
+
+
+class Case(unittest.TestCase):
+    """A test that tells which error a call raises, and what the error keeps."""
+
+    def refused(self, error, call, *args, **more):
+        """The call raises just this error, which is given back."""
+        try:
+            result = call(*args, **more)
+        except Exception as caught:
+            self.assertIs(type(caught), error, f"{caught!r} for {args!r}")
+            return caught
+        self.fail(f"no {error.__name__} for {args!r}, but {result!r}")
+
+    def refused_with(self, told, call, *args, **more):
+        """The call raises an error like this one, which keeps the same."""
+        caught = self.refused(type(told), call, *args, **more)
+        for field in told.__dict__:
+            kept = getattr(caught, field)
+            self.assertIs(type(kept), type(getattr(told, field)))
+            self.assertEqual(kept, getattr(told, field))
+
+
+def all_texts(letters, length):
+    """All texts of a length, in order."""
+    return ["".join(signs) for signs in itertools.product("0123"[:letters], repeat=length)]
+
+
+def short_texts(letters, most):
+    """All texts of at most so many letters, in order."""
+    return [text for length in range(most + 1) for text in all_texts(letters, length)]
+
+
+def turns(letters):
+    """All turns of so many letters."""
+    return list(itertools.permutations(range(letters)))
+
+
+def random_table(chance, letters, many):
+    """A dict of states with names, turns and next states, by chance."""
+    names = set()
+    while len(names) < many:
+        names.add("".join(chance.choice("abyz") for _ in range(chance.randint(1, 8))))
+    names = chance.sample(sorted(names), many)
+    return {
+        name: (chance.choice(turns(letters)), tuple(chance.choice(names) for _ in range(letters)))
+        for name in names
+    }
+
+
+def random_tables(seed, rounds=2):
+    """Pairs of a number of letters and a table, for 2 to 4 letters and 1 to 8 states."""
+    chance = random.Random(seed)
+    return [
+        (letters, random_table(chance, letters, many))
+        for letters in (2, 3, 4) for many in range(1, 9) for _ in range(rounds)
+    ]
+
+
+def random_texts(seed, letters, lengths=(0, 1, 2, 3, 5, 10, 50, 199, 200)):
+    """A text by chance of each of these lengths."""
+    chance = random.Random(seed)
+    return ["".join(chance.choice("0123"[:letters]) for _ in range(length)) for length in lengths]
+
+
+def model_step(table, state, text):
+    """What the document says of a step: the first letter, and then the rest by the next state."""
+    come = ""
+    for sign in text:
+        turn, nexts = table[state]
+        come += str(turn[int(sign)])
+        state = nexts[int(sign)]
+    return come, state

@@ -1,0 +1,1 @@
+"""Machines that move texts of every length."""

@@ -1,0 +1,1 @@
+"""What all other parts rest on: integers, letters, texts, names and turns."""

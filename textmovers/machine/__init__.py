@@ -1,0 +1,1 @@
+"""Machines, and machines that are known."""
