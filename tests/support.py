@@ -5,6 +5,7 @@ import random
 import unittest
 
 from textmovers.machine.machines import Machine
+from textmovers.move.moves import Move
 
 SWAP = (1, 0)
 STAY = (0, 1)
@@ -43,7 +44,7 @@ VALUES = [
     [], [0], [0, 1], ["a"], [("a", 1)], [["a", 1]],
     {}, {"a": "e"}, {"a": 1}, {1: "a"}, {"a": ((0, 1), ("a", "a"))}, {"a": [(0, 1), ("a", "a")]}, {(): ()},
     nested(tuple, 10), nested(list, 10), nested(dict, 10),
-    ODD, HANOI,
+    ODD, HANOI, Move(2, (SWAP, (0, 0))), Move(3, ((0, 1, 2), (0, 0, 0))),
 ]
 
 # Those among them that are no integer from 2 to 4.
@@ -121,3 +122,59 @@ def model_step(table, state, text):
         come += str(turn[int(sign)])
         state = nexts[int(sign)]
     return come, state
+
+
+def random_rows(chance, letters, many):
+    """A tuple of rows by chance, as a move can be told by."""
+    return tuple(
+        (chance.choice(turns(letters)), tuple(chance.randrange(many) for _ in range(letters))) for _ in range(many)
+    )
+
+
+def random_moves(seed, letters, many=12, most=6):
+    """Moves by chance, with at most so many rows."""
+    chance = random.Random(seed)
+    return [Move(letters, *random_rows(chance, letters, chance.randint(1, most))) for _ in range(many)]
+
+
+def model_led(rows, text):
+    """The text to which row 0 leads the text, as the document says of a step."""
+    return model_step(rows, 0, text)[0]
+
+
+def model_least(rows):
+    """The least form of row 0: rows are apart if they turn apart or go on in rows that are."""
+    apart = {(i, j) for i in range(len(rows)) for j in range(len(rows)) if rows[i][0] != rows[j][0]}
+    grown = True
+    while grown:
+        more = {
+            (i, j) for i in range(len(rows)) for j in range(len(rows))
+            if (i, j) not in apart and any(pair in apart for pair in zip(rows[i][1], rows[j][1]))
+        }
+        grown = bool(more)
+        apart |= more
+    first = [min(j for j in range(len(rows)) if (i, j) not in apart) for i in range(len(rows))]
+    order = [first[0]]
+    for row in order:
+        for behind in rows[row][1]:
+            if first[behind] not in order:
+                order.append(first[behind])
+    return tuple((rows[row][0], tuple(order.index(first[behind]) for behind in rows[row][1])) for row in order)
+
+
+def model_product(rows, other_rows):
+    """Rows of the product of row 0 of both: a row for each pair of rows."""
+    many = len(other_rows)
+    told = []
+    for turn, nexts in rows:
+        for other_turn, other_nexts in other_rows:
+            come = tuple(other_turn[letter] for letter in turn)
+            told.append((come, tuple(nexts[k] * many + other_nexts[turn[k]] for k in range(len(turn)))))
+    return tuple(told)
+
+
+def ring_move(many, letters=2):
+    """A move of so many rests: it turns the first letter, and each that stands so many further on."""
+    stay = tuple(range(letters))
+    swap = (1, 0) + stay[2:]
+    return Move(letters, *[(swap if at == 0 else stay, ((at + 1) % many,) * letters) for at in range(many)])

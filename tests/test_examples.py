@@ -3,9 +3,19 @@
 import unittest
 
 from run_examples import run_examples
-from support import FOLDED, GRAY, HANOI, LAMP, ODD
 from textmovers.base.letters import index_of, is_text, is_turn, text_at, texts
+from textmovers.machine.known import counter, folded, gray, towers
 from textmovers.machine.machines import Machine
+from textmovers.move.alike import alike_paper, alike_states, apart_text, are_alike, is_alike_paper, machine_of, merged
+from textmovers.move.moves import Move, first_turned, idle, joined_move, move_of
+from textmovers.move.words import first_words, is_word, joined_word, led, passed, undone_word, way_of, word_move
+
+VALUES = """
+>>> ODD = counter(2)
+>>> GRAY = gray()
+>>> HANOI = towers()
+>>> LAMP = Machine(2, {"a": ((1, 0), ("a", "b")), "b": ((0, 1), ("a", "b"))})
+"""
 
 LETTERS = """
 >>> [is_text(2, "0110"), is_text(2, "012"), is_turn(3, (1, 2, 0)), is_turn(3, (1, 1, 0)), text_at(3, 2, 5), index_of(2, "0110"), list(texts(2, 2)), list(texts(4, 0))]
@@ -17,19 +27,39 @@ MACHINES = """
 ['machine of 2 letters: a 10 e a, e 01 e e', ('001', 'e'), ('01', 'e'), ('0011', 'e'), ('0022', 'e'), ('110', 'e'), True]
 >>> [(~LAMP).nexts("a"), str(folded()), HANOI.part("a").states, len(GRAY.with_state("x", (1, 0), ("x", "b"))), "e" in LAMP, ODD.renamed({"a": "e", "e": "a"}) == ODD]
 [('b', 'a'), 'machine of 2 letters: a 10 e b, b 01 e a, e 01 e e', ('a', 'e'), 4, False, False]
+>>> counter(5)
+raises InvalidNumber(5)
+"""
+
+MOVES = """
+>>> add = move_of(ODD, "a")
+>>> [str(add), add("1101"), str(add.rest("0")), add.rest("11") == add, len(add * add), (add * add)("0110"), (~add)("000"), add.power(-3)("110")]
+['move of 2 letters: 10 1 0 | 01 1 1', '0011', 'move of 2 letters: 01 0 0', True, 3, '0001', '111', '000']
+>>> swap = first_turned(2, (1, 0))
+>>> [joined_move((1, 0), idle(2), add) == add, (add * ~add).is_idle, swap.moved_by(add)("00"), str(swap.moved_by(add)), Move(2, ((0, 1), (1, 2)), ((0, 1), (0, 2)), ((0, 1), (2, 1))) == idle(2), add < swap, [one.is_idle for one in add.rests()]]
+[True, True, '11', 'move of 2 letters: 10 1 2 | 10 1 3 | 10 3 2 | 01 3 3', True, True, [False, True]]
+"""
+
+WORDS = """
+>>> word = (("a", 1), ("c", -1), ("b", 2))
+>>> [is_word(HANOI, word), is_word(HANOI, (("a", 0),)), led(HANOI, word, "2201"), way_of(HANOI, word, "0120"), passed(HANOI, word, "2"), passed(ODD, (("a", 2),), "1"), undone_word(HANOI, word)]
+[True, False, '1211', ('0120', '1120', '2120', '0120', '2120'), ((('a', 1), ('e', -1), ('b', 2)), '1'), ((('a', 1), ('e', 1)), '1'), (('b', -2), ('c', 1), ('a', -1))]
+>>> [word_move(ODD, (("a", 2),)) == add * add, word_move(ODD, ()).is_idle, joined_word(HANOI, word, (("b", -2), ("c", 3))), [one for one, two in first_words(ODD, 2)], len(first_words(GRAY, 3))]
+[True, True, (('a', 1), ('c', 2)), [(), (('a', 1),), (('a', -1),), (('a', 2),), (('a', -2),)], 7]
+"""
+
+ALIKE = """
+>>> [apart_text(move_of(GRAY, "a"), move_of(GRAY, "b")), apart_text(add, move_of(folded(), "a")), apart_text(add, add * idle(2)), are_alike(ODD, "e", GRAY, "e"), alike_paper(ODD, "e", GRAY, "e"), is_alike_paper(ODD, "a", GRAY, "a", ("apart", "11"))]
+['0', '10', None, True, ('alike', (('e', 'e'),)), True]
+>>> twice = ODD.beside(ODD.renamed({"a": "x", "e": "y"}))
+>>> [alike_states(twice), merged(twice) == ODD, is_alike_paper(twice, "a", ODD, "a", ("alike", (("a", "a"), ("e", "e")))), machine_of(add * add, ("q", "a", "e")) == ODD.with_state("q", (0, 1), ("a", "a"))]
+[(('a', 'x'), ('e', 'y')), True, True, True]
 """
 
 
 class Examples(unittest.TestCase):
 
-    def test_letters(self):
-        names = {
-            "is_text": is_text, "is_turn": is_turn, "text_at": text_at, "index_of": index_of, "texts": texts,
-        }
-        self.assertEqual(run_examples(LETTERS, names), 1)
-
-    def test_machines(self):
-        names = {
-            "Machine": Machine, "ODD": ODD, "GRAY": GRAY, "HANOI": HANOI, "LAMP": LAMP, "folded": lambda: FOLDED,
-        }
-        self.assertEqual(run_examples(MACHINES, names), 2)
+    def test_in_the_order_of_the_document(self):
+        names = dict(globals())
+        held = [run_examples(text, names) for text in (VALUES, LETTERS, MACHINES, MOVES, WORDS, ALIKE)]
+        self.assertEqual(held, [0, 1, 3, 2, 2, 2])

@@ -15,6 +15,22 @@ INTERFACE = {
         "index_of(letters, text)", "texts(letters, length)",
     ],
     "textmovers.machine.machines": ["Machine(letters, states)"],
+    "textmovers.machine.known": ["counter(letters)", "gray()", "towers()", "folded()"],
+    "textmovers.move.moves": [
+        "Move(letters, *rows)", "idle(letters)", "move_of(machine, state)", "first_turned(letters, turn)",
+        "joined_move(turn, *rests)",
+    ],
+    "textmovers.move.words": [
+        "is_word(machine, value)", "word_move(machine, word)", "led(machine, word, text)",
+        "way_of(machine, word, text)", "passed(machine, word, text)", "undone_word(machine, word)",
+        "joined_word(machine, word, other_word)", "first_words(machine, steps)",
+    ],
+    "textmovers.move.alike": [
+        "apart_text(move, other_move)", "are_alike(one_machine, one_state, other_machine, other_state)",
+        "alike_paper(one_machine, one_state, other_machine, other_state)",
+        "is_alike_paper(one_machine, one_state, other_machine, other_state, value)", "alike_states(machine)",
+        "merged(machine)", "machine_of(move, names)",
+    ],
 }
 
 METHODS = {
@@ -23,6 +39,12 @@ METHODS = {
         "with_state(self, name, turn, nexts)", "part(self, state)", "undone(self)", "__invert__(self)",
         "beside(self, other)", "renamed(self, names)", "__contains__", "__len__(self)", "__iter__(self)", "__eq__",
         "__str__(self)",
+    ],
+    "textmovers.move.moves.Move": [
+        "of(cls, letters, rows)", "letters", "rows", "first_turn", "is_idle", "__call__(self, text)",
+        "rest(self, text)", "rests(self)", "undone(self)", "__invert__(self)", "__mul__(self, other)",
+        "power(self, number)", "moved_by(self, other)", "is_kept(self, text)", "__len__(self)", "__eq__(self, other)",
+        "__lt__(self, other)", "__str__(self)",
     ],
 }
 

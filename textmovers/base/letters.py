@@ -49,7 +49,6 @@ def text_at(letters, length, index):
 
 def index_of(letters, text):
     """The index of the text among all texts of its length."""
-    check_letters(letters)
     check_text(letters, text)
     index = 0
     for sign in text:
@@ -101,6 +100,6 @@ def check_length(length):
 
 
 def check_text(letters, text):
-    """Refuses what is no text of so many letters."""
+    """Refuses a number of letters that no machine has, and then what is no text of them."""
     if not is_text(letters, text):
         raise InvalidText(f"no text of {letters} letters")

@@ -135,7 +135,7 @@ def is_state_row(letters, value, names):
     turn, nexts = value
     if not is_turn(letters, turn) or not isinstance(nexts, tuple) or len(nexts) != letters:
         return False
-    return all([isinstance(name, str) and name in names for name in nexts])
+    return all([name in names for name in nexts])
 
 
 def is_renaming(machine, value):
@@ -160,7 +160,8 @@ def reached_states(table, state):
     names = [state]
     at = 0
     while at < len(names):
-        for behind in table[names[at]][1]:
+        _, nexts = table[names[at]]
+        for behind in nexts:
             if behind not in names:
                 names.append(behind)
         at += 1

@@ -1,0 +1,1 @@
+"""Moves, the words that make them, and whether two are alike."""
