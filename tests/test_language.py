@@ -248,6 +248,24 @@ class Language(unittest.TestCase):
                     if isinstance(node, ast.Call) and isinstance(node.func, ast.Attribute):
                         self.assertIn(node.func.attr, METHODS | OWN_METHODS)
 
+    def test_l5_operators_call_nothing_that_is_kept(self):
+        self.assertEqual(called_like_attributes(list(TREES.values())), [])
+
+    def test_l5_the_check_sees_such_calls(self):
+        own = "class Kept:\n    def __init__(self, index):\n        self.index = index\n"
+        for told in (
+            "def f(x):\n    return x.index(1)\nclass C:\n    def __invert__(self):\n        return f(self)",
+            "class C:\n    @property\n    def far(self):\n        return self.near()\n"
+            "    def near(self):\n        return [x.index(1) for x in self]",
+            "class D:\n    def __init__(self, x):\n        self.at = x.index(1)\n"
+            "class C:\n    def __str__(self):\n        return str(D(self))",
+            "class C:\n    @classmethod\n    def of(cls, x):\n        return cls(x)\n    def __init__(self, x):\n"
+            "        x.index(0)\n    def __eq__(self, x):\n        return C.of(x)",
+        ):
+            self.assertEqual(len(called_like_attributes([ast.parse(own), ast.parse(told)])), 1, told)
+        free = "def f(x):\n    return x.index(1)\nclass C:\n    def far(self):\n        return f(self)"
+        self.assertEqual(called_like_attributes([ast.parse(own), ast.parse(free)]), [])
+
     def test_l27_strings_and_powers(self):
         for path, tree in TREES.items():
             with self.subTest(file=str(path.relative_to(ROOT))):
@@ -259,6 +277,36 @@ class Language(unittest.TestCase):
                         self.assertLessEqual(node.right.value, 64)
                 for mark in re.findall(r"\\(.)", path.read_text(encoding="utf-8")):
                     self.assertIn(mark, "nt\\'\"")
+
+
+NO_OPERATORS = {"__init__", "__call__", "__enter__", "__exit__", "__setitem__"}
+
+
+def called_like_attributes(trees):
+    """Calls of methods called like a kept attribute, in what operators and properties reach (L5 Operators)."""
+    nodes = [node for tree in trees for node in ast.walk(tree)]
+    kept = {node.attr for node in nodes if isinstance(node, ast.Attribute) and isinstance(node.ctx, ast.Store)}
+    owners = [node for node in nodes if isinstance(node, ast.ClassDef)]
+    by_name = {}
+    for node in nodes:
+        if isinstance(node, ast.FunctionDef):
+            by_name.setdefault(node.name, []).append(node)
+    # Who names a class can call its __init__; cls can be any class.
+    by_name["cls"] = by_name.get("__init__", [])
+    for owner in owners:
+        by_name[owner.name] = [node for node in owner.body if isinstance(node, ast.FunctionDef) and node.name == "__init__"]
+    reached = [
+        node for owner in owners for node in owner.body if isinstance(node, ast.FunctionDef)
+        and (ast.unparse(node).startswith("@property") or node.name.startswith("__") and node.name not in NO_OPERATORS)
+    ]
+    for function in reached:
+        for node in ast.walk(function):
+            name = getattr(node, "id", None) or getattr(node, "attr", None)
+            reached.extend(node for node in by_name.get(name, []) if node not in reached)
+    return [
+        (function.name, node.func.attr) for function in reached for node in ast.walk(function)
+        if isinstance(node, ast.Call) and isinstance(node.func, ast.Attribute) and node.func.attr in kept
+    ]
 
 
 def imports(node):

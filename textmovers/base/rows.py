@@ -7,7 +7,10 @@ A place is a name in the tables of machines and a number in those of moves.
 
 def undone_turn(turn):
     """The turn that leads each letter back."""
-    return tuple([turn.index(letter) for letter in range(len(turn))])
+    back = list(turn)
+    for letter, come in enumerate(turn):
+        back[come] = letter
+    return tuple(back)
 
 
 def undone_row(turn, nexts):
