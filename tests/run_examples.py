@@ -16,16 +16,17 @@ def run_examples(text, names):
             told = "None"
         else:
             told = lines.pop(0)
-        result = outcome(line[4:], names)
-        if result != told:
-            raise AssertionError(f"{line}\n{result}\nis not\n{told}")
+        results = outcomes(line[4:], names)
+        if told not in results:
+            raise AssertionError(f"{line}\n{results[-1]}\nis not\n{told}")
         held += 1
     return held
 
 
-def outcome(line, names):
-    """What an expression returns or raises, as the document writes it."""
+def outcomes(line, names):
+    """How the document can write what an expression returns, or the error that it raises, with or without what it keeps."""
     try:
-        return repr(eval(line, names))
+        return [repr(eval(line, names))]
     except Exception as error:
-        return f"raises {type(error).__name__}({error})"
+        name = type(error).__name__
+        return [f"raises {name}"] + [f"raises {name}({kept!r})" for kept in vars(error).values()]

@@ -2,10 +2,13 @@
 
 import itertools
 import random
+import re
 import unittest
 
+from textmovers.grow.busy import is_quiet
 from textmovers.machine.machines import Machine
-from textmovers.move.moves import Move
+from textmovers.move.moves import Move, joined_move, move_of
+from textmovers.move.tables import least_rows, product_rows, rows_from
 
 SWAP = (1, 0)
 STAY = (0, 1)
@@ -20,6 +23,27 @@ HANOI = Machine(3, {
 })
 LAMP = Machine(2, {"a": (SWAP, ("a", "b")), "b": (STAY, ("a", "b"))})
 FOLDED = Machine(2, {"a": (SWAP, ("e", "b")), "b": (STAY, ("e", "a")), "e": (STAY, ("e", "e"))})
+
+LONG = ODD.with_state("c", STAY, ("c", "a"))
+FLIP = Machine(2, {"a": (SWAP, ("e", "e")), "e": (STAY, ("e", "e"))})
+
+
+def told_machine(string):
+    """The machine that is shown by a string."""
+    letters, states = re.fullmatch("machine of (.) letters: (.*)", string).groups()
+    table = {}
+    for name, turn, *nexts in (part.split() for part in states.split(", ")):
+        table[name] = (tuple(map(int, turn)), tuple(nexts))
+    return Machine(int(letters), table)
+
+
+# Their cores have just 60 and just 61 moves.
+SIXTY = told_machine("machine of 3 letters: a 210 b a e, b 102 d c c, c 021 d e e, d 201 e e e, e 012 e e e")
+MORE = told_machine("machine of 3 letters: a 021 d e d, b 012 g g d, c 120 g g d, d 021 g g g, "
+                    "e 021 g c g, f 210 a f g, g 012 g g g")
+# Its words have moves of very many rests.
+WIDE = told_machine("machine of 4 letters: a 2013 b c b c, b 3012 c c c d, c 0123 d d d d, d 2031 e e e e, "
+                    "e 0132 f f g g, f 3120 h h h g, g 2301 h f h h, h 0123 h h h h")
 
 
 def nested(kind, deep):
@@ -59,9 +83,9 @@ class Case(unittest.TestCase):
         try:
             result = call(*args, **more)
         except Exception as caught:
-            self.assertIs(type(caught), error, f"{caught!r} for {args!r}")
+            self.assertIs(type(caught), error, f"{caught!r} for {args!r}"[:500])
             return caught
-        self.fail(f"no {error.__name__} for {args!r}, but {result!r}")
+        self.fail(f"no {error.__name__} for {args!r}, but {result!r}"[:500])
 
     def refused_with(self, told, call, *args, **more):
         """The call raises an error like this one, which keeps the same."""
@@ -178,3 +202,80 @@ def ring_move(many, letters=2):
     stay = tuple(range(letters))
     swap = (1, 0) + stay[2:]
     return Move(letters, *[(swap if at == 0 else stay, ((at + 1) % many,) * letters) for at in range(many)])
+
+
+def circle_move(many, letters=2):
+    """A quiet move: a circle of so many rows by the letter 0, the first of which turns the first two letters."""
+    stay = tuple(range(letters))
+    rows = [((1, 0) + stay[2:] if at == 0 else stay, ((at + 1) % many,) + (many,) * (letters - 1)) for at in range(many)]
+    return Move(letters, *rows, (stay, (many,) * letters))
+
+
+def quiet_machines(seed, many, sizes=(2, 3, 4, 5, 6), letters=(2, 3, 4)):
+    """Quiet machines by chance, whose last state is idle."""
+    chance = random.Random(seed)
+    found = []
+    while len(found) < many:
+        count = chance.choice(letters)
+        size = chance.choice(sizes)
+        names = sorted(chance.sample("abcdefghijk", size))
+        chance.shuffle(names)
+        still = names[-1]
+        table = {still: (tuple(range(count)), (still,) * count)}
+        for at, name in enumerate(names[:-1]):
+            turn = list(range(count))
+            if chance.random() < 0.75:
+                chance.shuffle(turn)
+            # By one letter to any state, by the others to later ones: so loops are rare and single.
+            nexts = [still if chance.random() < 0.6 else chance.choice(names[at + 1:]) for _ in range(count)]
+            if chance.random() < 0.7:
+                nexts[chance.randrange(count)] = chance.choice(names[:-1])
+            table[name] = (tuple(turn), tuple(nexts))
+        machine = Machine(count, table)
+        if is_quiet(machine):
+            found.append(machine)
+    return found
+
+
+def model_table(machine, word):
+    """The least form of the move of a word, however great it is: a product of one step after the other."""
+    rows = ((tuple(range(machine.letters)), (0,) * machine.letters),)
+    for state, number in word:
+        step = move_of(machine, state) if number > 0 else ~move_of(machine, state)
+        for _ in range(abs(number)):
+            rows = least_rows(product_rows(rows, step.rows), 10 ** 9)
+    return rows
+
+
+def wide_word(seed, many, states="aab"):
+    """A word of so many steps of the wide machine, by chance."""
+    chance = random.Random(seed)
+    return tuple((chance.choice(states), chance.choice((1, 1, -1))) for _ in range(many))
+
+
+def rest_forms(rows):
+    """For each row of a least form the least form of its own move."""
+    return [rows_from(rows, place) for place in range(len(rows))]
+
+
+def model_settled(rows, forms):
+    """The least length such that the rests of a least form behind all texts of it are among these forms."""
+    inside = [form in forms for form in rest_forms(rows)]
+    places, length = {0}, 0
+    while not all(inside[place] for place in places):
+        places = {behind for place in places for behind in rows[place][1]}
+        length += 1
+    return length
+
+
+def stepping_move(many, one, two):
+    """A move of 4 letters that goes on by so many rows behind 0 and 1, and exchanges 2 and 3 in the last of its rows."""
+    stay, last = (0, 1, 2, 3), many - 1
+    rows = [(stay, (min(at + one, last), min(at + two, last), many, many)) for at in range(last)]
+    return Move(4, *rows, ((0, 1, 3, 2), (many,) * 4), (stay, (many,) * 4))
+
+
+def stepping_ring(*sizes):
+    """A move that exchanges 0 and 1, and 2 and 3, and whose ring-rests are products of stepping moves, and their rests."""
+    steps = [(1, 2), (2, 1), (1, 3), (3, 1)]
+    return joined_move((1, 0, 3, 2), *[stepping_move(size, *step) for size, step in zip(sizes, steps)])

@@ -4,11 +4,24 @@ import unittest
 
 from run_examples import run_examples
 from textmovers.base.letters import index_of, is_text, is_turn, text_at, texts
+from textmovers.core.cores import (
+    core, core_depth, core_rows, is_core_move, is_core_paper, meet_depth, rest_place, settled,
+)
+from textmovers.core.outlines import (
+    is_outline, joined_outline, outline, outline_depth, outline_led, outline_of, outline_power, outline_product,
+    outline_rest, outline_undone,
+)
+from textmovers.grow.busy import (
+    busy, busy_row, busy_sum, is_kind_paper, is_quiet, kind, kind_paper, loud_state,
+)
 from textmovers.machine.known import counter, folded, gray, towers
 from textmovers.machine.machines import Machine
 from textmovers.move.alike import alike_paper, alike_states, apart_text, are_alike, is_alike_paper, machine_of, merged
 from textmovers.move.moves import Move, first_turned, idle, joined_move, move_of
 from textmovers.move.words import first_words, is_word, joined_word, led, passed, undone_word, way_of, word_move
+from textmovers.ring.rings import (
+    led_often, ring_counts, ring_length, ring_rest, ring_rests, ring_table, ring_texts, times,
+)
 
 VALUES = """
 >>> ODD = counter(2)
@@ -56,6 +69,49 @@ ALIKE = """
 [(('a', 'x'), ('e', 'y')), True, True, True]
 """
 
+BUSY = """
+>>> LONG = ODD.with_state("c", (0, 1), ("c", "a"))
+>>> late, b = move_of(LONG, "c"), move_of(GRAY, "b")
+>>> [kind(add), kind(move_of(GRAY, "a")), kind(b), kind(late), kind(move_of(LAMP, "a")), [busy(late, length) for length in range(5)], busy_sum(late, 100), busy(move_of(LAMP, "b"), 200) == 2 ** 200]
+[('quiet', 1), ('shallow', 1), ('quiet', 2), ('degree', 1), ('loud',), [1, 2, 3, 4, 5], 5151, True]
+>>> [busy_row(b), busy_row(add), busy_row(idle(2)), is_quiet(HANOI), loud_state(LONG), is_kind_paper(b, ("degree", (("", "0"),), {0: (1, 0), 1: (0, 0)}))]
+[((1,), (2,)), ((), (1,)), ((), (0,)), True, 'c', True]
+>>> [is_kind_paper(late, ("degree", (("", "0"), ("1", "1")), {0: (2, 0), 1: (1, 0)})), is_kind_paper(move_of(LAMP, "a"), ("loud", "1", "1", "01")), is_kind_paper(add, ("shallow", {0: (0, 0)})), kind_paper(idle(2))]
+[True, True, False, ('shallow', {})]
+"""
+
+CORES = """
+>>> [core(ODD) == (idle(2), ~add, add), [len(core(machine)) for machine in (GRAY, HANOI, folded(), counter(4))], core_rows(GRAY), core_rows(HANOI)[1], [core_depth(machine) for machine in (ODD, HANOI, folded())], meet_depth(folded())]
+[True, [3, 4, 7, 3], (((0, 1), (0, 0)), ((1, 0), (0, 0)), ((0, 1), (2, 1))), ((0, 2, 1), (1, 0, 0)), [1, 1, 2], 2]
+>>> [settled(ODD, (("a", 4),)), settled(ODD, (("a", 5),)), settled(HANOI, (("a", 1), ("b", 1), ("c", 1), ("b", 1))), settled(HANOI, (("c", 1),)), rest_place(ODD, (("a", 5),), "110"), rest_place(ODD, (("a", 5),), "1"), is_core_move(GRAY, move_of(GRAY, "a") * move_of(GRAY, "b"))]
+[2, 3, 2, 0, 2, None, False]
+>>> [is_core_paper(ODD, ("core", ((("a", -1),), (), (("a", 1),)), 5)), is_core_paper(ODD, ("core", ((), (("a", 1),), (("a", -1),)), 0)), is_core_paper(GRAY, ("core", ((("b", 2),), (("b", 1),), (("a", 1),)), 1)), is_core_paper(GRAY, ("core", ((), (("b", 1),)), 1))]
+[True, False, True, False]
+>>> core(LAMP)
+raises Loud('a')
+"""
+
+OUTLINES = """
+>>> [outline(ODD, (("a", 2),)), outline(ODD, (("a", 4),)), outline(ODD, (("a", -1),)), outline(GRAY, (("a", 1), ("b", 1))), outline(HANOI, (("a", 1), ("b", 1)))]
+[(0, (((0, 1), (-3, -3)),)), (0, (((0, 1), (1, 1)), ((0, 1), (-3, -3)))), (-2, ()), (0, (((1, 0), (-2, -3)),)), (0, (((1, 2, 0), (-4, -1, -3)),))]
+>>> one = outline(ODD, (("a", 1),))
+>>> far = outline_power(ODD, one, 10 ** 30)
+>>> [outline_power(ODD, one, 4) == outline(ODD, (("a", 4),)), index_of(2, outline_led(ODD, far, "0" * 100)[::-1]) == 10 ** 30, outline_product(ODD, far, outline_undone(ODD, far)), outline_depth(ODD, outline(ODD, (("a", 5),))), len(outline_power(ODD, one, 2 ** 100)[1]), outline_power(GRAY, outline(GRAY, (("b", 1),)), 10 ** 50)]
+[True, True, (-1, ()), 3, 100, (-1, ())]
+>>> [is_outline(ODD, (0, (((1, 0), (-2, -2)),))), is_outline(ODD, (0, (((1, 0), (-1, -3)),))), is_outline(ODD, (0, (((0, 1), (0, -1)),))), outline_of(ODD, first_turned(2, (1, 0))), joined_outline(ODD, (1, 0), (-1, ()), one) == one, outline_rest(HANOI, outline(HANOI, (("a", 1), ("b", 1))), "01"), outline_of(ODD, move_of(LAMP, "a"))]
+[True, False, False, (0, (((1, 0), (-1, -1)),)), True, (-4, ()), None]
+"""
+
+RINGS = """
+>>> turns = word_move(HANOI, (("a", 1), ("b", 1)))
+>>> [ring_texts(add, "01"), ring_length(turns, "0" * 40) == 3 ** 40, ring_rest(add, "011") == add, ring_rest(turns, "1") == turns, len(ring_rest(turns, "0")), times(add, "0000", "1011"), times(turns, "000", "222"), times(move_of(HANOI, "a"), "00", "11")]
+[('01', '11', '00', '10'), True, True, True, 4, 13, 20, None]
+>>> [led_often(add, "00000", 10 ** 30 + 5), led_often(turns, "0000", 10 ** 40), led_often(add, "000", -1), ring_table(turns), ring_counts(turns, 3), ring_counts(move_of(HANOI, "a"), 3), ring_counts(move_of(folded(), "a"), 4)]
+['10100', '1210', '111', (((3, 1), (3, 0), (3, 0)), ((3, 0), (3, 1), (3, 1))), {27: 1}, {1: 1, 2: 13}, {2: 4, 4: 2}]
+>>> ring_rests(move_of(LAMP, "a"))
+raises TooMany
+"""
+
 
 class Examples(unittest.TestCase):
 
@@ -63,3 +119,5 @@ class Examples(unittest.TestCase):
         names = dict(globals())
         held = [run_examples(text, names) for text in (VALUES, LETTERS, MACHINES, MOVES, WORDS, ALIKE)]
         self.assertEqual(held, [0, 1, 3, 2, 2, 2])
+        held = [run_examples(text, names) for text in (BUSY, CORES, OUTLINES, RINGS)]
+        self.assertEqual(held, [3, 4, 3, 3])

@@ -31,6 +31,32 @@ INTERFACE = {
         "is_alike_paper(one_machine, one_state, other_machine, other_state, value)", "alike_states(machine)",
         "merged(machine)", "machine_of(move, names)",
     ],
+    "textmovers.grow.busy": [
+        "busy(move, length)", "busy_sum(move, length)", "kind(move)", "busy_row(move)", "kind_paper(move)",
+        "is_kind_paper(move, value)", "is_quiet(machine)", "loud_state(machine)",
+    ],
+    "textmovers.core.cores": [
+        "core(machine)", "is_core_move(machine, move)", "core_rows(machine)", "core_paper(machine)",
+        "is_core_paper(machine, value)", "core_depth(machine)", "meet_depth(machine)", "settled(machine, word)",
+        "rest_place(machine, word, text)",
+    ],
+    "textmovers.core.outlines": [
+        "outline(machine, word)", "outline_of(machine, move)", "is_outline(machine, value)",
+        "outline_led(machine, outline, text)", "outline_rest(machine, outline, text)",
+        "outline_depth(machine, outline)", "outline_move(machine, outline)",
+        "outline_product(machine, outline, other_outline)", "outline_undone(machine, outline)",
+        "outline_power(machine, outline, number)", "joined_outline(machine, turn, *outlines)",
+    ],
+    "textmovers.ring.rings": [
+        "ring_rest(move, text)", "ring_length(move, text)", "ring_texts(move, text)", "led_often(move, text, number)",
+        "times(move, text, other_text)", "ring_rests(move)", "ring_table(move)", "ring_counts(move, length)",
+    ],
+}
+
+CONSTANTS = {
+    "textmovers.base.letters": {"MAX_TEXT": 200, "MAX_STATES": 8, "MAX_RESTS": 60},
+    "textmovers.core.outlines": {"MAX_ROWS": 2000},
+    "textmovers.ring.rings": {"MAX_RINGS": 100, "MAX_SHOWN": 256},
 }
 
 METHODS = {
@@ -60,6 +86,11 @@ class Interface(unittest.TestCase):
                     self.assertEqual(value.__module__, module)
                     if "(" in line:
                         self.assertEqual(name + str(inspect.signature(value)), line)
+
+    def test_constants(self):
+        for module, told in CONSTANTS.items():
+            for name, value in told.items():
+                self.assertEqual(vars(importlib.import_module(module))[name], value)
 
     def test_methods_stand_in_their_classes(self):
         for path, told in METHODS.items():

@@ -1,6 +1,6 @@
 """Letters, texts, names and turns: who is one, and in which order texts stand."""
 
-from textmovers.base.whole import is_between, is_whole
+from textmovers.base.whole import is_between, is_passed, is_whole
 from textmovers.errors import InvalidNumber, InvalidText
 
 MAX_TEXT = 200
@@ -84,7 +84,7 @@ def digits_of(letters, length, index):
 def is_passed_index(value, many):
     """Whether the value is an index below this number that may be passed."""
     # A passed integer has at most sixty digits, even where there are more texts.
-    return is_between(value, 0, many - 1) and value < 10 ** 60
+    return is_between(value, 0, many - 1) and is_passed(value)
 
 
 def check_letters(letters):

@@ -166,8 +166,13 @@ def check_move(move):
 
 def check_other_move(move, other_move):
     """Refuses what is no move of as many letters."""
-    if not isinstance(other_move, Move) or other_move.letters != move.letters:
-        raise InvalidMove(f"no move of {move.letters} letters")
+    check_move_of(move.letters, other_move)
+
+
+def check_move_of(letters, move):
+    """Refuses what is no move of so many letters."""
+    if not isinstance(move, Move) or move.letters != letters:
+        raise InvalidMove(f"no move of {letters} letters")
 
 
 def are_moves_of(values, letters):

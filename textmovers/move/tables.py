@@ -29,11 +29,16 @@ def least_rows(rows, most):
         return None
     # Groups are numbered by their first rows, and these stand in the order in
     # which the least texts lead to them: so the groups have the least form's order.
-    least = []
-    for group, (turn, nexts) in zip(groups, reached):
-        if group == len(least):
-            least.append((turn, tuple([groups[behind] for behind in nexts])))
-    return tuple(least)
+    return tuple(first_rows(reached, groups))
+
+
+def first_rows(rows, groups):
+    """A row for each group of alike rows, in the order of their numbers."""
+    firsts = []
+    for group, (turn, nexts) in zip(groups, rows):
+        if group == len(firsts):
+            firsts.append((turn, tuple([groups[behind] for behind in nexts])))
+    return firsts
 
 
 def alike_groups(rows, most):

@@ -1,0 +1,1 @@
+"""The core of a quiet machine, and moves told by trees whose leaves are in it."""

@@ -1,0 +1,1 @@
+"""How many rests of a move are not idle, length by length."""
