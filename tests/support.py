@@ -279,3 +279,22 @@ def stepping_ring(*sizes):
     """A move that exchanges 0 and 1, and 2 and 3, and whose ring-rests are products of stepping moves, and their rests."""
     steps = [(1, 2), (2, 1), (1, 3), (3, 1)]
     return joined_move((1, 0, 3, 2), *[stepping_move(size, *step) for size, step in zip(sizes, steps)])
+
+
+def circling_move(one, other, ahead=0):
+    """A move of two letters that goes round all lengths by lcm(one, other) round rests, with so many ahead of these."""
+    still, later = one + other, one + other + 2
+    rows = [((0, 1), ((at + 1) % one, later if at == 0 else still)) for at in range(one)]
+    rows += [((1, 0), (later if at == 0 else still, one + (at + 1) % other)) for at in range(other)]
+    rows += [((0, 1), (still, still)), ((1, 0), (still, still)), ((0, 1), (still + 1, still + 1))]
+    move = Move(2, *rows) * Move(2, *rows_from(tuple(rows), one))
+    for _ in range(ahead):
+        move = put_ahead(move)
+    return move
+
+
+def put_ahead(move):
+    """A move that turns the letters in one ring, and whose ring-rest behind 0 is this move."""
+    letters = move.letters
+    stay = Move(letters, (tuple(range(letters)), (0,) * letters))
+    return joined_move((*range(1, letters), 0), move, *[stay] * (letters - 1))

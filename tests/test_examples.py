@@ -14,13 +14,21 @@ from textmovers.core.outlines import (
 from textmovers.grow.busy import (
     busy, busy_row, busy_sum, is_kind_paper, is_quiet, kind, kind_paper, loud_state,
 )
+from textmovers.level.levels import (
+    is_level_turn, level_size, level_turn, parting_length, piece_number, piece_of, pieces,
+)
 from textmovers.machine.known import counter, folded, gray, towers
 from textmovers.machine.machines import Machine
 from textmovers.move.alike import alike_paper, alike_states, apart_text, are_alike, is_alike_paper, machine_of, merged
 from textmovers.move.moves import Move, first_turned, idle, joined_move, move_of
 from textmovers.move.words import first_words, is_word, joined_word, led, passed, undone_word, way_of, word_move
+from textmovers.ring.orders import is_idle_after, is_order_paper, measures, order
 from textmovers.ring.rings import (
     led_often, ring_counts, ring_length, ring_rest, ring_rests, ring_table, ring_texts, times,
+)
+from textmovers.ring.rounds import (
+    first_stop, goes_round, has_rotations, is_round_paper, level_sum, place_in_round, round_paper, round_rests,
+    stop_by_sums, text_in_round,
 )
 
 VALUES = """
@@ -112,6 +120,35 @@ RINGS = """
 raises TooMany
 """
 
+ORDERS = """
+>>> six = joined_move((1, 0, 2), first_turned(3, (1, 2, 0)), idle(3), first_turned(3, (1, 0, 2)))
+>>> [order(add), order(turns), order(six), measures(six), order(idle(2)), order(word_move(GRAY, (("a", 1), ("b", 1), ("a", 1)))), [order(move_of(HANOI, state)) for state in HANOI], is_idle_after(six, -12), is_idle_after(add, 2 ** 99)]
+[None, None, 6, (6, 3, 2, 1), 1, 2, [2, 2, 2, 1], True, False]
+>>> [is_order_paper(add, ("spine", "", "0")), is_order_paper(add, ("spine", "01", "11")), is_order_paper(turns, ("spine", "0", "0")), is_order_paper(move_of(folded(), "a"), ("spine", "", "01")), is_order_paper(six, ("order", 6, (6, 3, 2, 1), ("00",))), is_order_paper(six, ("order", 6, (6, 3, 2, 1), ("2", "20"))), is_order_paper(six, ("order", 12, (12, 6, 2, 1), ("00",)))]
+[True, True, False, True, True, False, False]
+"""
+
+ROUNDS = """
+>>> both = word_move(HANOI, (("a", 1), ("b", 1)))
+>>> [goes_round(add), goes_round(add * add), goes_round(move_of(folded(), "a")), first_stop(move_of(folded(), "a")), goes_round(both), goes_round(both, 200), round_rests(both) == (both, word_move(HANOI, (("b", 1), ("a", 1))))]
+[True, False, False, 2, True, True, True]
+>>> [place_in_round(add, "0101"), text_in_round(add, 200, 2 ** 150) == "0" * 150 + "1" + "0" * 49, text_in_round(both, 2, 5), place_in_round(both, "20"), is_round_paper(add, ("round", (add,))), is_round_paper(move_of(folded(), "a"), ("apart", "00", "01")), round_paper(add * add)[0]]
+[10, True, '20', 5, True, True, 'apart']
+>>> lamp = move_of(LAMP, "a")
+>>> [[level_sum(lamp, length) for length in range(4)], stop_by_sums(lamp), goes_round(lamp, 2), stop_by_sums(add), has_rotations(both), level_sum(add.power(3), 10 ** 20), level_sum(move_of(counter(4), "a") * move_of(counter(4), "a"), 7)]
+[[1, 1, 0, 0], 3, True, None, False, 1, 2]
+"""
+
+LEVELS = """
+>>> FLIP = Machine(2, {"a": ((1, 0), ("e", "e")), "e": ((0, 1), ("e", "e"))})
+>>> [level_turn(add, 2), pieces(FLIP, 2), piece_of(FLIP, "0111"), piece_number(FLIP, 100) == 2 ** 99, parting_length(FLIP), [parting_length(machine) for machine in (ODD, GRAY, HANOI, folded())]]
+[(2, 3, 1, 0), (('00', '10'), ('01', '11')), ('0111', '1111'), True, 2, [None, None, None, None]]
+>>> [[level_size(machine, 2) for machine in (ODD, GRAY, LAMP, HANOI, counter(3))], level_size(ODD, 5), is_level_turn(GRAY, 2, (1, 0, 2, 3)), is_level_turn(ODD, 2, (1, 0, 2, 3)), is_level_turn(ODD, 2, (2, 3, 1, 0)), piece_number(HANOI, 200)]
+[[4, 8, 8, 648, 9], 32, True, False, True, 1]
+>>> piece_number(LAMP, 2)
+raises Loud('a')
+"""
+
 
 class Examples(unittest.TestCase):
 
@@ -121,3 +158,5 @@ class Examples(unittest.TestCase):
         self.assertEqual(held, [0, 1, 3, 2, 2, 2])
         held = [run_examples(text, names) for text in (BUSY, CORES, OUTLINES, RINGS)]
         self.assertEqual(held, [3, 4, 3, 3])
+        held = [run_examples(text, names) for text in (ORDERS, ROUNDS, LEVELS)]
+        self.assertEqual(held, [2, 3, 3])

@@ -51,12 +51,27 @@ INTERFACE = {
         "ring_rest(move, text)", "ring_length(move, text)", "ring_texts(move, text)", "led_often(move, text, number)",
         "times(move, text, other_text)", "ring_rests(move)", "ring_table(move)", "ring_counts(move, length)",
     ],
+    "textmovers.ring.orders": [
+        "order(move)", "measures(move)", "is_idle_after(move, number)", "order_paper(move)",
+        "is_order_paper(move, value)",
+    ],
+    "textmovers.ring.rounds": [
+        "round_rests(move)", "first_stop(move)", "goes_round(move, length=None)", "round_paper(move)",
+        "is_round_paper(move, value)", "place_in_round(move, text)", "text_in_round(move, length, place)",
+        "has_rotations(move)", "level_sum(move, length)", "stop_by_sums(move)",
+    ],
+    "textmovers.level.levels": [
+        "level_turn(move, length)", "pieces(machine, length)", "piece_of(machine, text)",
+        "piece_number(machine, length)", "parting_length(machine)", "level_size(machine, length)",
+        "is_level_turn(machine, length, value)",
+    ],
 }
 
 CONSTANTS = {
     "textmovers.base.letters": {"MAX_TEXT": 200, "MAX_STATES": 8, "MAX_RESTS": 60},
     "textmovers.core.outlines": {"MAX_ROWS": 2000},
     "textmovers.ring.rings": {"MAX_RINGS": 100, "MAX_SHOWN": 256},
+    "textmovers.ring.rounds": {"MAX_ROUNDS": 100, "MAX_SUMS": 1000},
 }
 
 METHODS = {
