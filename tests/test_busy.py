@@ -42,7 +42,8 @@ def moves():
     found = [move for letters in (2, 3, 4) for move in sparse_moves(letters, letters)]
     found += [move for letters in (2, 3) for move in random_moves(letters, letters, 4, 4)]
     found += [move_of(machine, state) for machine in (ODD, GRAY, HANOI, FOLDED, LAMP, LONG) for state in machine]
-    return found + [idle(letters) for letters in (2, 3, 4)] + [circle_move(5), ring_move(6)]
+    # The last ones turn each letter alike.
+    return found + [idle(letters) for letters in (2, 3, 4)] + [circle_move(5), ring_move(6), ring_move(1), ring_move(1, 4)]
 
 
 def idle_rests(move):
@@ -316,6 +317,14 @@ class Rows(Case):
         self.assertEqual([busy(uneven, length) for length in range(6)], [1, 1, 2, 1, 2, 1])
         self.assertEqual(busy_row(uneven), ((1,), (1, 2)))
         self.assertEqual(kind(uneven), ("quiet", 2))
+
+    def test_rounds_that_begin_at_once(self):
+        # Row 0 does not come again, but its numbers are those of row 2.
+        rows = ((SWAP, (1, 3)), (STAY, (2, 4)), (STAY, (1, 3)), (SWAP, (4, 4)), (STAY, (4, 4)))
+        self.assertEqual(len(Move(2, *rows)), 5)
+        self.assertEqual(busy_row(Move(2, *rows)), ((), (1, 2)))
+        rows = ((SWAP, (1, 4)), (STAY, (2, 5)), (STAY, (3, 5)), (STAY, (1, 4)), (SWAP, (5, 5)), (STAY, (5, 5)))
+        self.assertEqual(busy_row(Move(2, *rows)), ((), (1, 2, 1)))
 
     def test_five_hundred(self):
         # The numbers of the rests come again after 496 letters, from the length ahead + 1 on.

@@ -188,6 +188,14 @@ class Numbers(Case):
             for length in (10, 11):
                 self.assertEqual(piece_number(machine, length), len(model_pieces(machine, length)))
 
+    def test_pieces_by_steps_whose_rests_are_not_idle(self):
+        for machine in (told_machine("machine of 3 letters: a 210 b b b, b 102 e e e, e 012 e e e"),
+                        told_machine("machine of 4 letters: a 2301 b b b b, b 1032 c c e e, c 1023 e e e e, e 0123 e e e e"),
+                        told_machine("machine of 4 letters: a 3210 b b c c, b 1032 e e e e, c 0213 b b b b, e 0123 e e e e")):
+            for length in range(5):
+                self.assertEqual(piece_number(machine, length), len(pieces(machine, length)))
+        self.assertEqual(piece_number(told_machine("machine of 3 letters: a 210 b b b, b 102 e e e, e 012 e e e"), 1), 1)
+
     def test_never_falls(self):
         for machine in QUIET:
             told = [number for number in self.told_numbers(machine, 40) if number is not None]

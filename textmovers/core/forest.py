@@ -126,8 +126,9 @@ class Forest:
         if not self._undone:
             for place, back in enumerate(self.core_places(undone_rows(self._table[:self._many]))):
                 self._undone[place] = back
+        rests = self.outside(number, None)
         # Rests have lesser numbers than the moves whose rests they are.
-        for one in sorted([int(found) for found in self.outside(number, None)]):
+        for one in sorted([int(found) for found in rests]):
             if one not in self._undone:
                 turn, nexts = self._table[one]
                 back, backs = undone_row(turn, [self._undone[behind] for behind in nexts])

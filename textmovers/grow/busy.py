@@ -75,7 +75,7 @@ def is_kind_paper(move, value):
     if value[0] == "degree" and len(value) == 3:
         return is_ranking(links, value[2]) and is_chain(move, links, value[2], value[1])
     if value[0] == "loud" and len(value) == 4:
-        return are_apart_loops(move, links, *value[1:])
+        return are_apart_loops(move, links, value[1], value[2], value[3])
     return False
 
 
@@ -164,7 +164,7 @@ def shortened(ahead, again):
 def loud_paper(links):
     """A paper that shows two loops of which neither begins with the other one."""
     for place in links:
-        inner = [letter for letter, behind in links[place] if behind == place or place in reached_from(links, behind)]
+        inner = [letter for letter, behind in links[place] if place in reached_from(links, behind)]
         if len(inner) > 1:
             text, _ = way_to(links, 0, [place])
             return "loud", text, loop_by(links, place, inner[0]), loop_by(links, place, inner[1])

@@ -110,7 +110,7 @@ def spine_paper(table):
     links = ring_links(table)
     for place, pairs in enumerate(table):
         for letter, (length, behind) in enumerate(pairs):
-            if length > 1 and (behind == place or place in reached_from(links, behind)):
+            if length > 1 and place in reached_from(links, behind):
                 return "spine", way_to(links, 0, [place])[0], str(letter) + way_to(links, behind, [place])[0]
     return None
 
