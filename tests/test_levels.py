@@ -359,7 +359,7 @@ class Groups(Case):
                 self.refused_with(TooMany(32), is_level_turn, machine, more, None)
 
     def test_judged_values(self):
-        for value in [*VALUES, (1, 0), (0, 1, 2), (0, 1, 2, 2), (0, 1, 2, 4), (-1, 0, 1, 2), (0, 1, 2, BIG), (1, 0, 3, 2, 4),
+        for value in [*VALUES, (1, 0), (0, 1, 2), (0, 1, 2, 2), (0, 1, 2, 4), (-1, 0, 1, 2), (0, 1, 2, BIG), (1, 0, 3, 2, 4), (0, 1, 2, 3, 0), (0, 1, 2),
                       (True, 0, 2, 3), (False, 1, 2, 3), (0, 1, 2, "3"), (0, 1, 2, (3,)), [0, 1, 2, 3], "0123", (2, 1, 0, None)]:
             told = value == (0, 1, 2, 3) and type(value) is tuple and all(type(part) is int for part in value)
             self.assertIs(is_level_turn(GRAY, 2, value), told, value)

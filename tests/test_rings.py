@@ -158,6 +158,15 @@ class Rings(Case):
         self.assertEqual(ring_length(wide, "0123"), 4)
         self.assertEqual(ring_counts(wide, 4), {4: 64})
 
+    def test_far_more_products_than_rests(self):
+        # The second and the fourth one leave nothing in the end, but on the way there are 780 products.
+        just = joined_move((1, 2, 3, 0), *[ring_move(size, 4) for size in (20, 13, 3, 13)])
+        self.assertEqual(len(ring_rest(just, "0")), 60)
+        self.assertEqual(ring_length(just, "0" * 30), 8)
+        self.assertEqual(ring_counts(just, 1), {4: 1})
+        more = joined_move((1, 2, 3, 0), *[ring_move(size, 4) for size in (7, 13, 9, 13)])
+        self.refused_with(TooMany(60), ring_rest, more, "0")
+
     def test_great_loud_moves_are_refused_at_once(self):
         chance = random.Random(5)
         for letters in (2, 3, 4):
