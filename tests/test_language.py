@@ -7,6 +7,9 @@ import re
 import unittest
 import warnings
 
+from calm_calls import Told, calm_faults
+from calm_examples import CALM_EXAMPLES, NOT_CALM, SHOP
+
 ROOT = pathlib.Path(__file__).resolve().parent.parent
 PACKAGE = ROOT / "textmovers"
 FILES = sorted(path for path in PACKAGE.rglob("*") if path.is_file() and "__pycache__" not in path.parts)
@@ -248,23 +251,43 @@ class Language(unittest.TestCase):
                     if isinstance(node, ast.Call) and isinstance(node.func, ast.Attribute):
                         self.assertIn(node.func.attr, METHODS | OWN_METHODS)
 
-    def test_l5_operators_call_nothing_that_is_kept(self):
-        self.assertEqual(called_like_attributes(list(TREES.values())), [])
+    def test_l5_what_operators_and_properties_may_do(self):
+        trees = list(TREES.values())
+        roots = {function.name for function in Told(trees).roots()}
+        self.assertLessEqual({"__invert__", "__mul__", "__lt__", "__eq__", "__str__", "__len__", "rows", "is_idle"}, roots)
+        self.assertEqual(calm_faults(trees), [])
 
-    def test_l5_the_check_sees_such_calls(self):
-        own = "class Kept:\n    def __init__(self, index):\n        self.index = index\n"
-        for told in (
-            "def f(x):\n    return x.index(1)\nclass C:\n    def __invert__(self):\n        return f(self)",
-            "class C:\n    @property\n    def far(self):\n        return self.near()\n"
-            "    def near(self):\n        return [x.index(1) for x in self]",
-            "class D:\n    def __init__(self, x):\n        self.at = x.index(1)\n"
-            "class C:\n    def __str__(self):\n        return str(D(self))",
-            "class C:\n    @classmethod\n    def of(cls, x):\n        return cls(x)\n    def __init__(self, x):\n"
-            "        x.index(0)\n    def __eq__(self, x):\n        return C.of(x)",
-        ):
-            self.assertEqual(len(called_like_attributes([ast.parse(own), ast.parse(told)])), 1, told)
-        free = "def f(x):\n    return x.index(1)\nclass C:\n    def far(self):\n        return f(self)"
-        self.assertEqual(called_like_attributes([ast.parse(own), ast.parse(free)]), [])
+    def test_l5_the_check_sees_what_they_may_not_do(self):
+        for what, examples in NOT_CALM.items():
+            for told in examples:
+                with self.subTest(what=what, told=told):
+                    self.assertEqual([fault for _, _, fault in calm_faults([ast.parse(told)])], [what])
+
+    def test_l5_the_check_lets_what_they_may_do(self):
+        for told in CALM_EXAMPLES:
+            with self.subTest(told=told):
+                self.assertEqual(calm_faults([ast.parse(told)]), [])
+
+    def test_l5_the_check_reads_by_names_over_all_files(self):
+        table = ast.parse("class Table:\n    def __init__(self):\n        self._rows = []\n"
+                          "    def undone(self, row):\n        self._rows.append(row)\n        return row")
+        move = ast.parse("class Move:\n    def __init__(self):\n        self._row = 1\n"
+                         "    def undone(self):\n        return -self._row\n"
+                         "    def __invert__(self):\n        return self.undone()")
+        self.assertEqual(calm_faults([move]), [])
+        self.assertEqual(calm_faults([table]), [])
+        self.assertEqual(calm_faults([table, move]), [("undone", 5, "change")])
+        renamed = ast.parse(ast.unparse(table).replace("def undone", "def undone_number"))
+        self.assertEqual(calm_faults([renamed, move]), [])
+
+    def test_l5_the_check_holds_for_shops_and_endless_texts(self):
+        for method in ("__getitem__(self, at)", "__contains__(self, at)", "__len__(self)", "__eq__(self, at)",
+                       "__str__(self)", "__lt__(self, at)"):
+            told = SHOP.replace("METHOD", method)
+            self.assertEqual(calm_faults([ast.parse(told)]), [("looked", 6, "attribute")], method)
+        told = SHOP.replace("    def METHOD", "    @property\n    def seen(self)")
+        self.assertEqual(calm_faults([ast.parse(told)]), [("looked", 6, "attribute")])
+        self.assertEqual(calm_faults([ast.parse(SHOP.replace("METHOD", "seen(self)"))]), [])
 
     def test_l27_strings_and_powers(self):
         for path, tree in TREES.items():
@@ -277,36 +300,6 @@ class Language(unittest.TestCase):
                         self.assertLessEqual(node.right.value, 64)
                 for mark in re.findall(r"\\(.)", path.read_text(encoding="utf-8")):
                     self.assertIn(mark, "nt\\'\"")
-
-
-NO_OPERATORS = {"__init__", "__call__", "__enter__", "__exit__", "__setitem__"}
-
-
-def called_like_attributes(trees):
-    """Calls of methods called like a kept attribute, in what operators and properties reach (L5 Operators)."""
-    nodes = [node for tree in trees for node in ast.walk(tree)]
-    kept = {node.attr for node in nodes if isinstance(node, ast.Attribute) and isinstance(node.ctx, ast.Store)}
-    owners = [node for node in nodes if isinstance(node, ast.ClassDef)]
-    by_name = {}
-    for node in nodes:
-        if isinstance(node, ast.FunctionDef):
-            by_name.setdefault(node.name, []).append(node)
-    # Who names a class can call its __init__; cls can be any class.
-    by_name["cls"] = by_name.get("__init__", [])
-    for owner in owners:
-        by_name[owner.name] = [node for node in owner.body if isinstance(node, ast.FunctionDef) and node.name == "__init__"]
-    reached = [
-        node for owner in owners for node in owner.body if isinstance(node, ast.FunctionDef)
-        and (ast.unparse(node).startswith("@property") or node.name.startswith("__") and node.name not in NO_OPERATORS)
-    ]
-    for function in reached:
-        for node in ast.walk(function):
-            name = getattr(node, "id", None) or getattr(node, "attr", None)
-            reached.extend(node for node in by_name.get(name, []) if node not in reached)
-    return [
-        (function.name, node.func.attr) for function in reached for node in ast.walk(function)
-        if isinstance(node, ast.Call) and isinstance(node.func, ast.Attribute) and node.func.attr in kept
-    ]
 
 
 def imports(node):

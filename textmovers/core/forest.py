@@ -121,7 +121,7 @@ class Forest:
         turn = tuple([other_turn[come] for come in self._table[one][0]])
         self._products[pair] = self.number_of(turn, tuple([self._products[next_pair] for next_pair in behind]))
 
-    def undone(self, number):
+    def undone_number(self, number):
         """The number of the undone move."""
         if not self._undone:
             for place, back in enumerate(self.core_places(undone_rows(self._table[:self._many]))):

@@ -73,7 +73,7 @@ def outline_product(machine, outline, other_outline):
 def outline_undone(machine, outline):
     """The outline of the undone move."""
     forest = forest_of(machine)
-    return outline_at(forest, forest.undone(checked_number(forest, outline)))
+    return outline_at(forest, forest.undone_number(checked_number(forest, outline)))
 
 
 def outline_power(machine, outline, number):
@@ -84,7 +84,7 @@ def outline_power(machine, outline, number):
     forest = forest_of(machine)
     square = checked_number(forest, outline)
     if number < 0:
-        square = forest.undone(square)
+        square = forest.undone_number(square)
     left = abs(number)
     power = 0
     # Only the squares have a limit; what has come of them on the way has none.
