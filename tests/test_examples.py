@@ -11,8 +11,15 @@ from textmovers.core.outlines import (
     is_outline, joined_outline, outline, outline_depth, outline_led, outline_of, outline_power, outline_product,
     outline_rest, outline_undone,
 )
+from textmovers.endless.near import (
+    are_near, end_moves, far_length, is_near_paper, leaders, near_groups, near_ones, near_paper,
+)
+from textmovers.endless.texts import Endless
 from textmovers.grow.busy import (
     busy, busy_row, busy_sum, is_kind_paper, is_quiet, kind, kind_paper, loud_state,
+)
+from textmovers.level.depths import (
+    are_same, count, depth, depth_pair, is_depth_pair, is_rotating_machine, rotation, rotation_sum, zero_sizes,
 )
 from textmovers.level.levels import (
     is_level_turn, level_size, level_turn, parting_length, piece_number, piece_of, pieces,
@@ -30,6 +37,7 @@ from textmovers.ring.rounds import (
     first_stop, goes_round, has_rotations, is_round_paper, level_sum, place_in_round, round_paper, round_rests,
     stop_by_sums, text_in_round,
 )
+from textmovers.way.ways import end_ways, ends, fewest, is_short_word, short_word
 
 VALUES = """
 >>> ODD = counter(2)
@@ -149,6 +157,36 @@ LEVELS = """
 raises Loud('a')
 """
 
+DEPTHS = """
+>>> [[is_rotating_machine(machine) for machine in (ODD, LAMP, HANOI, counter(4))], count(ODD, (("a", 5),), ("a", "a")), count(GRAY, (("a", 1), ("b", -2), ("a", 1)), ("a", "b")), count(GRAY, (("b", -2),), ("b", "b")), [rotation(ODD, (("a", 3),), text) for text in ("", "0", "1")]]
+[[True, True, False, False], 10, -2, 3, [1, 1, 0]]
+>>> [rotation_sum(ODD, ""), rotation_sum(ODD, "0"), rotation_sum(ODD, "1"), rotation_sum(GRAY, "1"), rotation_sum(GRAY, "0"), are_same(ODD, (("a", 2),), (), 1), are_same(ODD, (("a", 2),), (), 2)]
+[{('a',): 1}, {('a', 'a'): 1}, {('a',): 1, ('a', 'a'): 1}, {('a', 'b'): 1, ('b',): 1}, {('a', 'b'): 1}, True, False]
+>>> [[depth(machine, 3) for machine in (ODD, GRAY, LAMP, folded())], [depth(counter(3), length) for length in (0, 1, 2)], zero_sizes(ODD, 3), zero_sizes(LAMP, 3), depth_pair(ODD, 2, 2), is_depth_pair(ODD, 2, 1, ((("a", 2),), ())), is_depth_pair(ODD, 2, 1, ((("a", 4),), ()))]
+[[4, 4, 3, 4], [0, 1, 3], (8, 4, 2, 2, 1), (32, 8, 2, 1), None, True, False]
+"""
+
+NEAR = """
+>>> ones, zeros = Endless(2, "11", tail="1"), Endless(2, "0")
+>>> [str(ones), str(Endless(2, "10", tail="1011")), Endless(2, "0110", tail="011").ring, ones.put("0") == Endless(2, "1", tail="10"), str(ones.put("01").cut(1)), Endless(3, "12", tail="0").end(6), zeros < ones]
+['(1)', '(01)1', '0011', True, '(1)0', '212120', True]
+>>> [are_near(ODD, ones, zeros), [str(one) for one in near_ones(ODD, ones.put("0"))], [str(one) for one in near_ones(HANOI, Endless(3, "2", tail="01"))], [str(one) for one in near_ones(folded(), ones)], [str(one) for one in near_ones(GRAY, zeros.put("10"))]]
+[True, ['(0)1', '(1)0'], ['(2)01', '(2)11'], ['(1)', '(01)', '(10)'], ['(0)10', '(0)11']]
+>>> [end_moves(ODD, ones, zeros) == (add,), len(leaders(ODD, ones, zeros, 1)), far_length(ODD, ones, Endless(2, "10")), near_groups(ODD, ones, zeros.put("1"), zeros, ones.put("0"), Endless(2, "01"))]
+[True, 2, 2, ((0, 2), (1, 3), (4,))]
+>>> [is_near_paper(ODD, ones, zeros, ("near", add, 3, 2)), is_near_paper(ODD, ones, zeros, ("near", idle(2), 0, 1)), is_near_paper(ODD, ones, Endless(2, "10"), ("far", 2)), is_near_paper(ODD, ones, Endless(2, "10"), ("far", 1)), near_paper(HANOI, Endless(3, "2"), Endless(3, "0"))[0]]
+[True, False, True, False, 'far']
+>>> are_near(LAMP, ones, zeros)
+raises Loud('a')
+"""
+
+WAYS = """
+>>> [ends(HANOI, 3), ends(folded(), 3), end_ways(HANOI, 2), fewest(HANOI, "0" * 50, "2" * 50) == 2 ** 50 - 1, fewest(GRAY, "0000", "0001"), fewest(ODD, "0000", "0001"), fewest(HANOI, "012", "210")]
+[('000', '111', '222'), ('010', '101', '111'), {('00', '11'): 3, ('00', '22'): 3, ('11', '22'): 3}, True, 15, 8, 3]
+>>> [is_short_word(HANOI, "00", "22", (("a", 1), ("b", 1), ("c", 1))), fewest(HANOI, "00", "22"), short_word(ODD, "11", "01"), fewest(Machine(2, {"a": ((1, 0), ("e", "e")), "e": ((0, 1), ("e", "e"))}), "00", "01"), led(HANOI, short_word(HANOI, "012", "210"), "012")]
+[True, 3, (('a', -1),), None, '210']
+"""
+
 
 class Examples(unittest.TestCase):
 
@@ -160,3 +198,5 @@ class Examples(unittest.TestCase):
         self.assertEqual(held, [3, 4, 3, 3])
         held = [run_examples(text, names) for text in (ORDERS, ROUNDS, LEVELS)]
         self.assertEqual(held, [2, 3, 3])
+        held = [run_examples(text, names) for text in (DEPTHS, NEAR, WAYS)]
+        self.assertEqual(held, [3, 5, 2])

@@ -65,6 +65,23 @@ INTERFACE = {
         "piece_number(machine, length)", "parting_length(machine)", "level_size(machine, length)",
         "is_level_turn(machine, length, value)",
     ],
+    "textmovers.level.depths": [
+        "is_rotating_machine(machine)", "count(machine, word, pattern)", "rotation(machine, word, text)",
+        "rotation_sum(machine, text)", "are_same(machine, word, other_word, most)", "depth(machine, length)",
+        "zero_sizes(machine, length)", "depth_pair(machine, length, most)",
+        "is_depth_pair(machine, length, most, value)",
+    ],
+    "textmovers.endless.texts": ["Endless(letters, ring, *, tail='')"],
+    "textmovers.endless.near": [
+        "leaders(machine, endless, other_endless, length)", "end_moves(machine, endless, other_endless)",
+        "are_near(machine, endless, other_endless)", "near_ones(machine, endless)",
+        "near_groups(machine, *endless_texts)", "near_paper(machine, endless, other_endless)",
+        "is_near_paper(machine, endless, other_endless, value)", "far_length(machine, endless, other_endless)",
+    ],
+    "textmovers.way.ways": [
+        "ends(machine, length)", "end_ways(machine, length)", "fewest(machine, text, other_text)",
+        "short_word(machine, text, other_text)", "is_short_word(machine, text, other_text, value)",
+    ],
 }
 
 CONSTANTS = {
@@ -72,6 +89,7 @@ CONSTANTS = {
     "textmovers.core.outlines": {"MAX_ROWS": 2000},
     "textmovers.ring.rings": {"MAX_RINGS": 100, "MAX_SHOWN": 256},
     "textmovers.ring.rounds": {"MAX_ROUNDS": 100, "MAX_SUMS": 1000},
+    "textmovers.endless.texts": {"MAX_RING": 12, "MAX_TAIL": 40},
 }
 
 METHODS = {
@@ -85,6 +103,10 @@ METHODS = {
         "of(cls, letters, rows)", "letters", "rows", "first_turn", "is_idle", "__call__(self, text)",
         "rest(self, text)", "rests(self)", "undone(self)", "__invert__(self)", "__mul__(self, other)",
         "power(self, number)", "moved_by(self, other)", "is_kept(self, text)", "__len__(self)", "__eq__(self, other)",
+        "__lt__(self, other)", "__str__(self)",
+    ],
+    "textmovers.endless.texts.Endless": [
+        "letters", "ring", "tail", "end(self, length)", "put(self, text)", "cut(self, number)", "__eq__(self, other)",
         "__lt__(self, other)", "__str__(self)",
     ],
 }

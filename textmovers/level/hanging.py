@@ -8,7 +8,7 @@ Groups without open texts stay as they are behind each letter: others counts the
 """
 
 from textmovers.errors import TooMany
-from textmovers.move.alike import merged
+from textmovers.move.alike import alike_states, merged
 from textmovers.move.moves import move_of
 
 MAX_HANGING = 24
@@ -17,9 +17,14 @@ MAX_HANGING = 24
 def busy_rests(machine):
     """The turn of each state that is not idle, and the numbers of the next ones, None for an idle one."""
     least = merged(machine)
-    names = [state for state in least if not move_of(least, state).is_idle]
+    names = busy_states(machine)
     numbers = {state: number for number, state in enumerate(names)}
     return [(least.turn(state), tuple([numbers.get(behind) for behind in least.nexts(state)])) for state in names]
+
+
+def busy_states(machine):
+    """The first of each group of states with equal moves that are not idle."""
+    return [group[0] for group in alike_states(machine) if not move_of(machine, group[0]).is_idle]
 
 
 def first_hanging(rests):

@@ -1,0 +1,1 @@
+"""Fewest steps between texts, however long they are."""
