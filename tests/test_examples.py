@@ -37,6 +37,10 @@ from textmovers.ring.rounds import (
     first_stop, goes_round, has_rotations, is_round_paper, level_sum, place_in_round, round_paper, round_rests,
     stop_by_sums, text_in_round,
 )
+from textmovers.shop.shop import Shop
+from textmovers.text.formats import read_machine, read_move, read_value, write_machine, write_move, write_value
+from textmovers.text.shell import Shell
+from textmovers.text.shops import read_shop, write_shop
 from textmovers.way.ways import end_ways, ends, fewest, is_short_word, short_word
 
 VALUES = """
@@ -187,6 +191,44 @@ WAYS = """
 [True, 3, (('a', -1),), None, '210']
 """
 
+SHOPS = """
+>>> shop = Shop(HANOI)
+>>> [shop.keep("one", (("a", 1), ("b", 1))), shop.keep("two", (("c", 2),)), shop.promise("still", ("idle", "two")), shop.link("both", "one", "two"), shop["both"], shop.promise("same", ("alike", "one", "both")), shop.names, str(shop)]
+[None, None, None, None, (('a', 1), ('b', 1), ('c', 2)), None, ('both', 'one', 'two'), 'shop of 3 words, 2 promises']
+>>> [shop.would_break("two", (("c", 1),)), shop.led("both", "0021"), shop.undo(many=2), shop.labels, shop.redo(), shop.during(lambda same: [same.turn_back("one"), same["one"]]), shop["one"], "two" in shop]
+[('still',), '1221', 3, ('still',), 4, [None, (('b', -1), ('a', -1))], (('a', 1), ('b', 1)), True]
+>>> shop.keep("two", (("c", 1),))
+raises Broken('still')
+"""
+
+STRINGS = r"""
+>>> [write_machine(ODD).split("\n"), write_move(add).split("\n"), read_machine(write_machine(HANOI)) == HANOI, read_move(write_move(swap.moved_by(add))) == swap.moved_by(add)]
+[['letters 2', 'state a 10 e a', 'state e 01 e e'], ['letters 2', 'row 10 1 0', 'row 01 1 1'], True, True]
+>>> [write_value(("near", add, 3, 2)), write_value(("spine", "", "0")), write_value({("a", "b"): -2, ("a",): None, 7: ()}), write_value(Endless(2, "11", tail="0")), read_value("[ 2 01 0 0 ]") == idle(2), read_value("< 3 =12 =0 >") == Endless(3, "12", tail="0")]
+['( =near [ 2 10 1 0 01 1 1 ] 3 2 )', '( =spine = =0 )', '{ ( =a ) none ( =a =b ) -2 7 ( ) }', '< 2 =1 =0 >', True, True]
+>>> small = Shop(ODD)
+>>> [small.keep("one", (("a", 1),)), small.keep("two", ()), small.promise("goes", ("round", "one")), small.promise("far", ("leads", "one", "", "")), write_shop(small).split("\n")[3:], read_shop(write_shop(small)) == small]
+[None, None, None, None, ['word one a 1', 'word two', 'promise far leads one = =', 'promise goes round one'], True]
+>>> read_move("letters 2\nrow 10 1 0\nrow 01 1 1 0")
+raises ParseError(3)
+>>> read_machine("letters 2\nstate a 10 e a\nrow 01 1 1")
+raises ParseError(2)
+"""
+
+SHELLS = r"""
+>>> shell = Shell(HANOI)
+>>> [shell("keep one a 1 b 1"), shell("keep two c 2"), shell("promise still idle two"), shell("keep two c 1"), shell("link both one two"), shell("word both"), shell("led both =0021"), shell("order one"), shell("ring one =0000"), shell("kind two"), shell("names")]
+['done', 'done', 'done', 'broken still', 'done', 'a 1 b 1 c 2', '=1221', 'none', '81', 'shallow 0', 'both one two']
+>>> [shell("round one"), shell("alike one both"), shell("apart one two"), shell("core"), shell("depth"), shell("settled both"), shell("fewest =012 =210"), shell("near (2)01 (22)11"), shell("nears (2)01"), shell("pieces 200"), shell("size 2"), shell("parting"), shell("quiet")]
+['yes', 'yes', '=0', '4', '1', '1', '3', 'yes', '(2)01 (2)11', '1', '648', 'none', 'yes']
+>>> odd = Shell(ODD)
+>>> [odd("keep one a 1"), odd("often one 5 =000"), odd("times one =0000 =1011"), odd("stop one"), odd("word x"), odd("keep one q 1"), odd("keep One a 1"), odd("led one =012"), odd("busy one 201"), odd("undo 2"), odd("keep one a"), odd("near (1) (0)"), odd("far (1) (10)"), odd("way =11 =01"), odd("move one").split("\n")]
+['done', '=101', '13', 'none', 'unknown x', 'word', 'name', 'text', 'number 201', 'undo 2', 'what', 'yes', '2', 'a -1', ['letters 2', 'row 10 1 0', 'row 01 1 1']]
+>>> lamp = Shell(LAMP)
+>>> [lamp("keep one a 1"), lamp("kind one"), lamp("core"), lamp("quiet"), lamp("promise goes round one"), lamp("promise soft calm one")]
+['done', 'loud', 'loud a', 'no', 'loud a', 'broken soft']
+"""
+
 
 class Examples(unittest.TestCase):
 
@@ -200,3 +242,5 @@ class Examples(unittest.TestCase):
         self.assertEqual(held, [2, 3, 3])
         held = [run_examples(text, names) for text in (DEPTHS, NEAR, WAYS)]
         self.assertEqual(held, [3, 5, 2])
+        held = [run_examples(text, names) for text in (SHOPS, STRINGS, SHELLS)]
+        self.assertEqual(held, [3, 5, 4])

@@ -82,6 +82,13 @@ INTERFACE = {
         "ends(machine, length)", "end_ways(machine, length)", "fewest(machine, text, other_text)",
         "short_word(machine, text, other_text)", "is_short_word(machine, text, other_text, value)",
     ],
+    "textmovers.shop.shop": ["Shop(machine)"],
+    "textmovers.text.formats": [
+        "write_machine(machine)", "write_move(move)", "write_value(value)", "read_machine(string)", "read_move(string)",
+        "read_value(string)",
+    ],
+    "textmovers.text.shops": ["write_shop(shop)", "read_shop(string)"],
+    "textmovers.text.shell": ["Shell(machine)"],
 }
 
 CONSTANTS = {
@@ -90,6 +97,9 @@ CONSTANTS = {
     "textmovers.ring.rings": {"MAX_RINGS": 100, "MAX_SHOWN": 256},
     "textmovers.ring.rounds": {"MAX_ROUNDS": 100, "MAX_SUMS": 1000},
     "textmovers.endless.texts": {"MAX_RING": 12, "MAX_TAIL": 40},
+    "textmovers.shop.shop": {
+        "MAX_KEPT": 8, "MAX_PROMISES": 8, "SORTS": ("alike", "calm", "idle", "leads", "round", "swap", "times"),
+    },
 }
 
 METHODS = {
@@ -109,6 +119,14 @@ METHODS = {
         "letters", "ring", "tail", "end(self, length)", "put(self, text)", "cut(self, number)", "__eq__(self, other)",
         "__lt__(self, other)", "__str__(self)",
     ],
+    "textmovers.shop.shop.Shop": [
+        "machine", "names", "labels", "words", "promises", "keep(self, name, word)", "link(self, name, one, other)",
+        "turn_back(self, name)", "drop(self, name)", "promise(self, label, promise)", "release(self, label)",
+        "__getitem__(self, at)", "move(self, name)", "led(self, name, text)", "would_break(self, name, word)",
+        "undo(self, *, many=1)", "redo(self, *, many=1)", "trial(self)", "during(self, call)", "twin(self)",
+        "__contains__(self, value)", "__len__(self)", "__iter__(self)", "__eq__(self, other)", "__str__(self)",
+    ],
+    "textmovers.text.shell.Shell": ["shop(self)", "__call__(self, line)", "answer(self, line)"],
 }
 
 

@@ -1,0 +1,1 @@
+"""A shop that keeps words under names, and promises about them."""
