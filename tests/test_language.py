@@ -7,7 +7,7 @@ import re
 import unittest
 import warnings
 
-from calm_calls import Told, calm_faults
+from calm_calls import Told, calm_faults, is_property
 from calm_examples import CALM_EXAMPLES, NOT_CALM, SHOP
 
 ROOT = pathlib.Path(__file__).resolve().parent.parent
@@ -251,6 +251,46 @@ class Language(unittest.TestCase):
                     if isinstance(node, ast.Call) and isinstance(node.func, ast.Attribute):
                         self.assertIn(node.func.attr, METHODS | OWN_METHODS)
 
+    def test_l5_names_of_properties(self):
+        told = Told(list(TREES.values()))
+        self.assertLessEqual({"letters", "rows", "ring", "words"}, told.properties)
+        kept = {node.attr for tree in TREES.values() for node in ast.walk(tree) if isinstance(node, ast.Attribute) and stored(node)}
+        self.assertEqual(told.properties & (kept | BUILTIN_METHODS), set())
+        for name in told.properties:
+            self.assertTrue(all(is_property(node) for node in told.methods[name]), name)
+
+    def test_l26_names_of_methods_and_attributes(self):
+        self.assertLessEqual(OWN_METHODS & BUILTIN_METHODS - DUNDERS, METHODS)
+        kept = {node.attr for tree in TREES.values() for node in ast.walk(tree) if isinstance(node, ast.Attribute) and stored(node)}
+        self.assertLessEqual(kept & BUILTIN_METHODS, set("count index title find get join lower upper split strip copy add".split()))
+
+    def test_l5_what_is_sorted_is_plain(self):
+        for path, tree in TREES.items():
+            with self.subTest(file=str(path.relative_to(ROOT))):
+                for node in ast.walk(tree):
+                    if isinstance(node, ast.Call) and isinstance(node.func, ast.Name) and node.func.id in ("sorted", "min", "max"):
+                        one = len(node.args) == 1
+                        self.assertTrue(are_plain(node.args[0]) if one else any(map(is_plain, node.args)), ast.unparse(node))
+
+    def test_l7_lists_for_any_and_the_like(self):
+        for path, tree in TREES.items():
+            with self.subTest(file=str(path.relative_to(ROOT))):
+                for node in ast.walk(tree):
+                    if isinstance(node, ast.Call) and isinstance(node.func, ast.Name) and node.func.id in ("any", "all"):
+                        self.assertIsInstance(node.args[0], ast.ListComp, ast.unparse(node))
+                    self.assertNotIsInstance(node, ast.GeneratorExp)
+
+    def test_l23_what_is_gone_over_is_not_changed(self):
+        for path, tree in TREES.items():
+            with self.subTest(file=str(path.relative_to(ROOT))):
+                for node in ast.walk(tree):
+                    if isinstance(node, ast.For):
+                        gone = gone_over(node.iter)
+                        for inner in (inner for row in node.body for inner in ast.walk(row)):
+                            self.assertEqual(changed(inner) & gone, set(), ast.unparse(node.iter))
+                    elif isinstance(node, (ast.ListComp, ast.DictComp, ast.SetComp)):
+                        self.assertEqual(set().union(*map(changed, ast.walk(node))), set(), ast.unparse(node))
+
     def test_l5_what_operators_and_properties_may_do(self):
         trees = list(TREES.values())
         roots = {function.name for function in Told(trees).roots()}
@@ -300,6 +340,64 @@ class Language(unittest.TestCase):
                         self.assertLessEqual(node.right.value, 64)
                 for mark in re.findall(r"\\(.)", path.read_text(encoding="utf-8")):
                     self.assertIn(mark, "nt\\'\"")
+
+
+BUILTIN_METHODS = {
+    name for kind in (str, bytes, int, list, dict, set, tuple) for name in dir(kind) if not name.startswith("__")
+}
+CHANGES = set("append extend insert pop remove clear reverse setdefault update sort add discard".split())
+
+
+def stored(node):
+    return isinstance(node.ctx, ast.Store)
+
+
+def is_plain(node):
+    """Whether this is plainly a number or a string (L5 Operators)."""
+    if isinstance(node, ast.Constant):
+        return isinstance(node.value, (int, str))
+    if isinstance(node, ast.BinOp):
+        return is_plain(node.left) and is_plain(node.right)
+    if isinstance(node, ast.Call) and isinstance(node.func, ast.Name):
+        return node.func.id in ("len", "int", "ord", "str", "repr")
+    return isinstance(node, ast.JoinedStr) or isinstance(node, ast.UnaryOp) and is_plain(node.operand)
+
+
+def are_plain(node):
+    """Whether these are plainly numbers or strings."""
+    if isinstance(node, ast.ListComp):
+        return is_plain(node.elt)
+    if isinstance(node, (ast.List, ast.Tuple)):
+        return all(map(is_plain, node.elts))
+    return isinstance(node, ast.Call) and isinstance(node.func, ast.Name) and node.func.id == "range"
+
+
+def names_in(node):
+    """The names and attributes by which something is told, self left out."""
+    names = {inner.id for inner in ast.walk(node) if isinstance(inner, ast.Name)} - {"self"}
+    return names | {inner.attr for inner in ast.walk(node) if isinstance(inner, ast.Attribute)}
+
+
+def gone_over(node):
+    """What a loop goes over, if it is no new list and no range."""
+    if isinstance(node, ast.Call) and isinstance(node.func, ast.Name):
+        if node.func.id in ("list", "range", "sorted"):
+            return set()
+        return set().union(*map(gone_over, node.args)) if node.func.id in ("enumerate", "zip", "reversed") else set()
+    if isinstance(node, ast.Subscript) and isinstance(node.slice, ast.Slice):
+        return set()
+    return names_in(node)
+
+
+def changed(node):
+    """What a statement or a call changes by a method, an item or a heap."""
+    if isinstance(node, ast.Subscript) and not isinstance(node.ctx, ast.Load):
+        return names_in(node.value)
+    if isinstance(node, ast.Call) and isinstance(node.func, ast.Attribute) and node.func.attr in CHANGES:
+        return names_in(node.func.value)
+    if isinstance(node, ast.Call) and isinstance(node.func, ast.Name) and node.func.id in LIBRARY["heapq"]:
+        return names_in(node.args[0])
+    return set()
 
 
 def imports(node):

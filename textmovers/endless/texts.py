@@ -1,7 +1,7 @@
 """Texts that go on without end to the left."""
 
 from textmovers.base.letters import check_length, check_letters, check_text, is_text
-from textmovers.errors import InvalidNumber, InvalidText
+from textmovers.errors import InvalidText
 
 MAX_RING = 12
 MAX_TAIL = 40

@@ -4,9 +4,10 @@ from textmovers.base.letters import check_length, is_text
 from textmovers.base.rows import led_from
 from textmovers.base.whole import is_whole
 from textmovers.errors import InvalidOperation, Loud, TooMany
-from textmovers.grow.ranks import busy_links, loop_by, ranking_of, reached_from, way_to
+from textmovers.grow.ranks import are_single, busy_links, loop_by, ranking_of, reached_from, way_to, wild_places
 from textmovers.machine.machines import check_machine
-from textmovers.move.moves import check_move, move_of
+from textmovers.move.moves import check_move, state_rows
+from textmovers.move.tables import alike_groups, first_rows
 
 MAX_AHEAD = 500
 
@@ -87,10 +88,13 @@ def is_quiet(machine):
 def loud_state(machine):
     """The first state that is neither shallow nor quiet, or None."""
     check_machine(machine)
-    for state in machine:
-        if not is_calm(move_of(machine, state)):
-            return state
-    return None
+    rows = state_rows(machine)
+    if are_single(rows):
+        return None
+    groups = alike_groups(rows, len(rows))
+    wild = wild_places(busy_links(first_rows(rows, groups)))
+    loud = [state for state, group in zip(machine, groups) if group in wild]
+    return loud[0] if loud else None
 
 
 def check_quiet(machine):

@@ -18,7 +18,7 @@ def busy_links(rows):
 def still_place(rows):
     """The number of the idle row of a least form, or None if it has none."""
     for place, (turn, nexts) in enumerate(rows):
-        if turn == tuple(range(len(turn))) and all([behind == place for behind in nexts]):
+        if is_still_row(place, turn, nexts):
             return place
     return None
 
@@ -68,6 +68,30 @@ def rank_of(links, circle, place, ranks):
     behind_it = [ranks[behind] for _, behind in links[place]]
     deepest = max([int(depth) for depth, _ in behind_it], default=0)
     return deepest, max([int(at) + 1 for depth, at in behind_it if depth == deepest], default=0)
+
+
+def are_single(rows):
+    """Whether each of the rows is seen to go on by one letter at most, so that there is one loop behind it at most."""
+    still = [place for place, (turn, nexts) in enumerate(rows) if is_still_row(place, turn, nexts)]
+    return all([len([behind for behind in nexts if behind not in still]) < 2 for _, nexts in rows])
+
+
+def is_still_row(place, turn, nexts):
+    """Whether a row leaves each letter, and goes on in itself."""
+    return turn == tuple(range(len(turn))) and all([behind == place for behind in nexts])
+
+
+def wild_places(links):
+    """The rows that are neither shallow nor quiet: they reach two loops of one row, or loops behind loops."""
+    reached = {place: reached_from(links, place) for place in links}
+    looped = [place for place in links if place in reached[place]]
+    wild = {}
+    for place in looped:
+        inner = [behind for _, behind in links[place] if behind == place or place in reached[behind]]
+        later = [one for one in looped if one in reached[place] and place not in reached[one]]
+        if len(inner) > 1 or later:
+            wild[place] = True
+    return [place for place in links if place in wild or any([one in wild for one in reached[place]])]
 
 
 def way_to(links, first, goals):

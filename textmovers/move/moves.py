@@ -5,7 +5,10 @@ from textmovers.base.rows import led_from, shown_turn
 from textmovers.base.whole import is_between
 from textmovers.errors import InvalidMove, InvalidNumber, TooMany
 from textmovers.machine.machines import check_machine, check_state
-from textmovers.move.tables import joined_rows, least_rows, product_rows, rows_from, undone_rows
+from textmovers.move.gathering import power_form
+from textmovers.move.tables import (
+    LeastForm, idle_rows, joined_rows, least_of_met, least_rows, product_rows, rows_from, undone_rows,
+)
 
 MAX_POWER = 100
 
@@ -15,10 +18,13 @@ class Move:
 
     def __init__(self, letters, *rows):
         check_letters(letters)
-        if not is_row_tuple(letters, rows):
-            raise InvalidMove("no one to sixty pairs of a turn and the numbers of rows")
         self._letters = letters
-        self._rows = least_rows(rows, len(rows))
+        if len(rows) == 1 and isinstance(rows[0], LeastForm):
+            self._rows = rows[0].told
+        elif is_row_tuple(letters, rows):
+            self._rows = least_rows(rows, len(rows))
+        else:
+            raise InvalidMove("no one to sixty pairs of a turn and the numbers of rows")
 
     @classmethod
     def of(cls, letters, rows):
@@ -63,24 +69,24 @@ class Move:
 
     def undone(self):
         """The move that leads each text back."""
-        return Move.of(self._letters, undone_rows(self._rows))
+        return least_move(self._letters, rows_from(undone_rows(self._rows), 0))
 
     def __invert__(self):
         return self.undone()
 
     def __mul__(self, other):
         check_other_move(self, other)
-        return told_move(self._letters, product_rows(self._rows, other._rows))
+        return met_move(self._letters, product_rows(self._rows, other._rows))
 
     def power(self, number):
         """So many times the move, or its undone one for a number below 0."""
         if not is_between(number, -MAX_POWER, MAX_POWER):
             raise InvalidNumber(number)
         once = self if number > 0 else self.undone()
-        result = idle(self._letters)
-        for _ in range(abs(number)):
-            result = result * once
-        return result
+        form = power_form(self._letters, once._rows, abs(number))
+        if form is None:
+            raise TooMany(MAX_RESTS)
+        return least_move(self._letters, form)
 
     def moved_by(self, other):
         """The product of the undone other move, this one and the other one."""
@@ -112,24 +118,22 @@ class Move:
 def idle(letters):
     """The move that leads each text to itself."""
     check_letters(letters)
-    return Move.of(letters, idle_rows(letters))
+    return least_move(letters, idle_rows(letters))
 
 
 def move_of(machine, state):
     """The move of a state of a machine."""
     check_machine(machine)
     check_state(machine, state)
-    names = [state] + [name for name in machine if name != state]
-    places = {name: place for place, name in enumerate(names)}
-    rows = [(machine.turn(name), tuple([places[behind] for behind in machine.nexts(name)])) for name in names]
-    return Move.of(machine.letters, tuple(rows))
+    rows = state_rows(machine)
+    return least_move(machine.letters, least_of_met(rows_from(rows, machine.states.index(state)), len(rows)))
 
 
 def first_turned(letters, turn):
     """The move that turns the first letter and leaves all others."""
     if not is_turn(letters, turn):
         raise InvalidMove(f"no turn of {letters} letters")
-    return Move.of(letters, joined_rows(turn, [idle_rows(letters)] * letters))
+    return told_move(letters, joined_rows(turn, [idle_rows(letters)] * letters))
 
 
 def joined_move(turn, *rests):
@@ -142,20 +146,31 @@ def joined_move(turn, *rests):
 
 def told_move(letters, rows):
     """The move of any number of rows, if its least form is not too great."""
-    least = least_rows(rows, MAX_RESTS)
+    return met_move(letters, rows_from(rows, 0))
+
+
+def met_move(letters, rows):
+    """The same for rows that are numbered as they are met from row 0 on."""
+    least = least_of_met(rows, MAX_RESTS)
     if least is None:
         raise TooMany(MAX_RESTS)
-    return Move.of(letters, least)
+    return least_move(letters, least)
+
+
+def least_move(letters, rows):
+    """The move of a least form."""
+    return Move(letters, LeastForm(rows))
 
 
 def rest_at(move, place):
     """The rest of a move that a row of its least form tells."""
-    return Move.of(move.letters, rows_from(move.rows, place))
+    return least_move(move.letters, rows_from(move.rows, place))
 
 
-def idle_rows(letters):
-    """The least form of the idle move."""
-    return ((tuple(range(letters)), (0,) * letters),)
+def state_rows(machine):
+    """A row for each state of a machine, by the names."""
+    places = {name: place for place, name in enumerate(machine)}
+    return [(machine.turn(name), tuple([places[behind] for behind in machine.nexts(name)])) for name in machine]
 
 
 def check_move(move):

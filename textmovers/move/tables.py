@@ -6,6 +6,18 @@ Each row tells a move. A table tells that of its row 0.
 from textmovers.base.rows import undone_row
 
 
+class LeastForm:
+    """The rows of a least form, told to be one, so that they need not be looked at again."""
+
+    def __init__(self, told):
+        self.told = told
+
+
+def idle_rows(letters):
+    """The least form of the idle move."""
+    return ((tuple(range(letters)), (0,) * letters),)
+
+
 def rows_from(rows, first):
     """The rows that are reached from one row, numbered as they are met from it on."""
     numbers = {first: 0}
@@ -23,13 +35,17 @@ def rows_from(rows, first):
 
 def least_rows(rows, most):
     """The least form of the move of row 0, or None if it has more than so many rows."""
-    reached = rows_from(rows, 0)
-    groups = alike_groups(reached, most)
+    return least_of_met(rows_from(rows, 0), most)
+
+
+def least_of_met(rows, most):
+    """The same for rows that are all reached from row 0, and numbered as they are met from it on."""
+    groups = alike_groups(rows, most)
     if groups is None:
         return None
     # Groups are numbered by their first rows, and these stand in the order in
     # which the least texts lead to them: so the groups have the least form's order.
-    return tuple(first_rows(reached, groups))
+    return tuple(first_rows(rows, groups))
 
 
 def first_rows(rows, groups):
@@ -43,46 +59,41 @@ def first_rows(rows, groups):
 
 def alike_groups(rows, most):
     """For each row the number of its group of alike rows, or None if there are more than so many."""
-    groups = numbered([turn for turn, _ in rows])
-    many = 0
-    # Groups are only ever cut, so too many now are too many in the end.
-    while many < len(set(groups)) <= most:
-        many = len(set(groups))
-        marks = [(group, tuple([groups[behind] for behind in nexts])) for group, (_, nexts) in zip(groups, rows)]
-        groups = numbered(marks)
-    if len(set(groups)) > most:
-        return None
-    return groups
+    groups, many = numbered([turn for turn, _ in rows])
+    columns = list(zip(*[nexts for _, nexts in rows]))
+    ahead = 0
+    # Groups are only ever cut, so too many now are too many in the end, and single rows stay single.
+    while ahead < many <= most and many < len(rows):
+        ahead = many
+        for column in columns:
+            groups, many = numbered([group * many + groups[behind] for group, behind in zip(groups, column)])
+    return None if many > most else groups
 
 
 def numbered(marks):
-    """For each mark its number, equal marks having one, in the order in which they first stand."""
-    numbers = {}
-    told = []
-    for mark in marks:
-        if mark not in numbers:
-            numbers[mark] = len(numbers)
-        told.append(numbers[mark])
-    return told
+    """For each mark its number, in the order in which they first stand, and how many unlike marks there are."""
+    firsts = {mark: True for mark in marks}
+    numbers = {mark: number for number, mark in enumerate(firsts)}
+    return [numbers[mark] for mark in marks], len(numbers)
 
 
 def product_rows(rows, other_rows):
-    """The rows that do what the first table does and then what the other one does."""
-    numbers = {(0, 0): 0}
-    pairs = [(0, 0)]
+    """The rows that do what the first table does and then what the other one does, numbered as they are met."""
+    many = len(other_rows)
+    # A pair of places is told by one number.
+    order = [0]
+    numbers = {0: 0}
     told = []
-    while len(told) < len(pairs):
-        one, other = pairs[len(told)]
+    while len(told) < len(order):
+        one, other = divmod(order[len(told)], many)
         turn, nexts = rows[one]
         other_turn, other_nexts = other_rows[other]
-        places = []
-        for letter in range(len(turn)):
-            pair = (nexts[letter], other_nexts[turn[letter]])
+        pairs = [behind * many + other_nexts[come] for come, behind in zip(turn, nexts)]
+        for pair in pairs:
             if pair not in numbers:
-                numbers[pair] = len(pairs)
-                pairs.append(pair)
-            places.append(numbers[pair])
-        told.append((tuple([other_turn[letter] for letter in turn]), tuple(places)))
+                numbers[pair] = len(order)
+                order.append(pair)
+        told.append((tuple([other_turn[come] for come in turn]), tuple([numbers[pair] for pair in pairs])))
     return tuple(told)
 
 

@@ -7,7 +7,7 @@ from textmovers.base.whole import is_passed, is_whole
 from textmovers.errors import InvalidNumber
 from textmovers.grow.ranks import reached_from, way_to
 from textmovers.move.moves import check_move
-from textmovers.ring.rings import rings_of
+from textmovers.ring.rings import ring_table
 
 
 def order(move):
@@ -18,8 +18,7 @@ def order(move):
 
 def measures(move):
     """The orders of all ring-rests, in their order, or None if the move has no order."""
-    _, table = rings_of(move)
-    return least_measures(table)
+    return least_measures(ring_table(move))
 
 
 def is_idle_after(move, number):
@@ -33,7 +32,7 @@ def is_idle_after(move, number):
 
 def order_paper(move):
     """A paper that shows the order of the move, or that it has none."""
-    _, table = rings_of(move)
+    table = ring_table(move)
     told = least_measures(table)
     if told is None:
         return spine_paper(table)
@@ -44,7 +43,7 @@ def order_paper(move):
 
 def is_order_paper(move, value):
     """Whether the value is such a paper, whoever made it."""
-    _, table = rings_of(move)
+    table = ring_table(move)
     if not isinstance(value, tuple) or not value:
         return False
     if value[0] == "order" and len(value) == 4:

@@ -3,8 +3,9 @@
 from textmovers.base.letters import check_text
 from textmovers.base.whole import is_between, is_passed
 from textmovers.errors import InvalidNumber, InvalidText, TooMany
-from textmovers.move.moves import Move, check_move
-from textmovers.ring.turning import letter_ring, led_by_forms, ring_forms, times_by_forms, told_ring_form
+from textmovers.move.moves import check_move, least_move
+from textmovers.ring.rests import RingRests
+from textmovers.ring.turning import led_by_spots, ring_spots, times_by_spots
 
 MAX_RINGS = 100
 MAX_SHOWN = 256
@@ -13,16 +14,16 @@ MAX_COUNTED = 60
 
 def ring_rest(move, text):
     """The ring-rest of the move behind a text."""
-    forms = checked_forms(move, text)
-    return Move.of(move.letters, forms[-1])
+    rests, spots = checked_spots(move, text)
+    return least_move(move.letters, rests.form(spots[-1]))
 
 
 def ring_length(move, text):
     """How many texts the ring of a text has."""
-    forms = checked_forms(move, text)
+    rests, spots = checked_spots(move, text)
     many = 1
-    for form, sign in zip(forms, text):
-        many = many * len(letter_ring(form, int(sign)))
+    for spot, sign in zip(spots, text):
+        many = many * len(rests.ring_at(spot, int(sign)))
     return many
 
 
@@ -43,7 +44,8 @@ def led_often(move, text, number):
     check_text(move.letters, text)
     if not is_passed(number):
         raise InvalidNumber(number)
-    return led_by_forms(ring_forms(move, text), text, number)
+    rests, spots = checked_spots(move, text)
+    return led_by_spots(rests, spots, text, number)
 
 
 def times(move, text, other_text):
@@ -53,18 +55,19 @@ def times(move, text, other_text):
     check_text(move.letters, other_text)
     if len(other_text) != len(text):
         raise InvalidText("texts of unlike lengths")
-    return times_by_forms(ring_forms(move, text), text, other_text)
+    rests, spots = checked_spots(move, text)
+    return times_by_spots(rests, spots, text, other_text)
 
 
 def ring_rests(move):
     """All ring-rests of a move, in their order."""
-    forms, _ = rings_of(move)
-    return tuple([Move.of(move.letters, form) for form in forms])
+    rests, spots, _ = rings_of(move)
+    return tuple([least_move(move.letters, rests.form(spot)) for spot in spots])
 
 
 def ring_table(move):
     """For each ring-rest and each letter the length of its ring and the index of the ring-rest behind it."""
-    _, table = rings_of(move)
+    _, _, table = rings_of(move)
     return table
 
 
@@ -73,7 +76,7 @@ def ring_counts(move, length):
     check_move(move)
     if not is_between(length, 0, MAX_COUNTED):
         raise InvalidNumber(length)
-    _, table = rings_of(move)
+    _, _, table = rings_of(move)
     # For each ring-rest: how many texts of it have rings of which lengths.
     counts = [{1: 1} if place == 0 else {} for place in range(len(table))]
     for _ in range(length):
@@ -85,32 +88,33 @@ def ring_counts(move, length):
     return {many: told[many] // many for many in sorted([int(one) for one in told])}
 
 
-def checked_forms(move, text):
-    """The forms of a text, and the ring-rest behind it; refuses what is no move or no text of it."""
+def checked_spots(move, text):
+    """The ring-rests of a move, and their spots along a text; refuses what is no move or no text of it."""
     check_move(move)
     check_text(move.letters, text)
-    return ring_forms(move, text)
+    rests = RingRests(move.rows)
+    return rests, ring_spots(rests, text)
 
 
 def rings_of(move):
-    """The least forms of all ring-rests of a move, and their table."""
+    """The ring-rests of a move, the spots of all of them in their order, and their table."""
     check_move(move)
-    forms = [move.rows]
-    places = {move.rows: 0}
+    rests = RingRests(move.rows)
+    spots = [(0, 0)]
     table = []
-    while len(table) < len(forms):
-        form = forms[len(table)]
+    while len(table) < len(spots):
+        spot = spots[len(table)]
         pairs = []
         for letter in range(move.letters):
-            behind = told_ring_form(form, letter)
-            if behind not in places:
-                if len(forms) == MAX_RINGS:
+            behind = rests.told_behind(spot, letter)
+            number = rests.number(behind)
+            if number == len(spots):
+                if number == MAX_RINGS:
                     raise TooMany(MAX_RINGS)
-                places[behind] = len(forms)
-                forms.append(behind)
-            pairs.append((len(letter_ring(form, letter)), places[behind]))
+                spots.append(behind)
+            pairs.append((len(rests.ring_at(spot, letter)), number))
         table.append(tuple(pairs))
-    return forms, tuple(table)
+    return rests, spots, tuple(table)
 
 
 def next_text_counts(table, counts):

@@ -5,9 +5,10 @@ from math import gcd
 from textmovers.base.letters import check_length, check_text, is_text, text_number
 from textmovers.base.whole import is_between, is_passed
 from textmovers.errors import InvalidNumber, InvalidOperation, TooMany
-from textmovers.move.moves import Move, are_moves_of, check_move
+from textmovers.move.moves import are_moves_of, check_move, least_move
+from textmovers.ring.rests import RingRests
 from textmovers.ring.sums import far_sum, next_sums
-from textmovers.ring.turning import led_by_forms, letter_ring, ring_form, times_by_forms, told_ring_form
+from textmovers.ring.turning import led_by_spots, times_by_spots
 
 MAX_ROUNDS = 100
 MAX_SUMS = 1000
@@ -16,15 +17,15 @@ MAX_SUMS = 1000
 def round_rests(move):
     """The round rests of the move, in order."""
     check_move(move)
-    forms, _ = round_forms(move, None)
-    return tuple([Move.of(move.letters, form) for form in forms])
+    rests, spots, _ = round_spots(move, None)
+    return moves_at(rests, spots)
 
 
 def first_stop(move):
     """The least length that the move does not go round, or None if it goes round all."""
     check_move(move)
-    forms, _ = round_forms(move, None)
-    return None if turns_round(forms[-1]) else len(forms)
+    rests, spots, _ = round_spots(move, None)
+    return None if turns_round(rests, spots[-1]) else len(spots)
 
 
 def goes_round(move, length=None):
@@ -32,19 +33,19 @@ def goes_round(move, length=None):
     check_move(move)
     if length is not None:
         check_length(length)
-    forms, _ = round_forms(move, length)
-    return all([turns_round(form) for form in forms])
+    rests, spots, _ = round_spots(move, length)
+    return all([turns_round(rests, spot) for spot in spots])
 
 
 def round_paper(move):
     """A paper that shows whether the move goes round all lengths."""
     check_move(move)
-    forms, _ = round_forms(move, None)
-    if turns_round(forms[-1]):
-        return "round", tuple([Move.of(move.letters, form) for form in forms])
-    ring = letter_ring(forms[-1], 0)
+    rests, spots, _ = round_spots(move, None)
+    if turns_round(rests, spots[-1]):
+        return "round", moves_at(rests, spots)
+    ring = rests.ring_at(spots[-1], 0)
     outside = [letter for letter in range(move.letters) if letter not in ring]
-    ahead = "0" * (len(forms) - 1)
+    ahead = "0" * (len(spots) - 1)
     return "apart", ahead + "0", ahead + str(outside[0])
 
 
@@ -64,7 +65,8 @@ def place_in_round(move, text):
     """How often the move must be done until it leads the first text of the length to this one."""
     check_move(move)
     check_text(move.letters, text)
-    return times_by_forms(forms_along(move, len(text)), "0" * len(text), text)
+    rests, spots = spots_along(move, len(text))
+    return times_by_spots(rests, spots, "0" * len(text), text)
 
 
 def text_in_round(move, length, place):
@@ -73,7 +75,8 @@ def text_in_round(move, length, place):
     check_length(length)
     if not is_between(place, 0, text_number(move.letters, length) - 1):
         raise InvalidNumber(place)
-    return led_by_forms(forms_along(move, length), "0" * length, place)
+    rests, spots = spots_along(move, length)
+    return led_by_spots(rests, spots, "0" * length, place)
 
 
 def has_rotations(move):
@@ -107,69 +110,80 @@ def stop_by_sums(move):
     raise TooMany(MAX_SUMS)
 
 
-def turns_round(form):
-    """Whether the move turns the letters in one ring."""
-    return len(letter_ring(form, 0)) == len(form[0][0])
+def turns_round(rests, spot):
+    """Whether a ring-rest turns the letters in one ring."""
+    return len(rests.ring_at(spot, 0)) == len(rests.row_at(spot)[0])
 
 
-def round_forms(move, most):
-    """The least forms of the round rests, no more than most, and the place at which they go on again, or None."""
-    forms = []
-    places = {}
-    form = move.rows
-    while len(forms) != most:
-        if form in places:
-            return forms, places[form]
-        if len(forms) == MAX_ROUNDS:
+def moves_at(rests, spots):
+    """The ring-rests at these spots."""
+    return tuple([least_move(len(rests.row_at(spot)[0]), rests.form(spot)) for spot in spots])
+
+
+def round_spots(move, most):
+    """The ring-rests, the spots of the round rests, no more than most, and the place at which they go on again."""
+    rests = RingRests(move.rows)
+    spots = []
+    spot = (0, 0)
+    while len(spots) != most:
+        number = rests.number(spot)
+        if number < len(spots):
+            return rests, spots, number
+        if len(spots) == MAX_ROUNDS:
             raise TooMany(MAX_ROUNDS)
-        places[form] = len(forms)
-        forms.append(form)
-        if not turns_round(form):
-            return forms, None
+        spots.append(spot)
+        if not turns_round(rests, spot):
+            return rests, spots, None
         # The next one is not looked at if no more are told.
-        if len(forms) != most:
-            form = told_ring_form(form, 0)
-    return forms, None
+        if len(spots) != most:
+            spot = rests.told_behind(spot, 0)
+    return rests, spots, None
 
 
-def forms_along(move, length):
-    """The round rests behind all beginnings of the first text of a length that the move goes round."""
-    forms, again = round_forms(move, length)
-    if not all([turns_round(form) for form in forms]):
+def spots_along(move, length):
+    """The ring-rests, and the spots of those behind all beginnings of the first text of a length that is gone round."""
+    rests, spots, again = round_spots(move, length)
+    if not all([turns_round(rests, spot) for spot in spots]):
         raise InvalidOperation("the move does not go round the length")
-    many = len(forms)
-    while len(forms) < length:
-        forms.append(forms[len(forms) - many + again])
-    return forms
+    many = len(spots)
+    while len(spots) < length:
+        spots.append(spots[len(spots) - many + again])
+    return rests, spots
 
 
 def are_round_moves(move, value):
     """Whether the value is a tuple of unlike moves, this one among them, that go round letter by letter."""
     if not isinstance(value, tuple) or not are_moves_of(value, move.letters):
         return False
-    forms = {one.rows: True for one in value}
+    forms = {one.rows: RingRests(one.rows) for one in value}
     if len(forms) < len(value) or move.rows not in forms:
         return False
-    if not all([turns_round(form) for form in forms]):
+    if not all([turns_round(forms[form], (0, 0)) for form in forms]):
         return False
-    return all([leads_into(form, forms) for form in forms])
+    return all([leads_into(forms[form], forms) for form in forms])
 
 
-def leads_into(form, forms):
-    """Whether the ring-rest behind some letter is one of these."""
-    return any([ring_form(form, letter) in forms for letter in range(len(form[0][0]))])
+def leads_into(rests, forms):
+    """Whether the ring-rest of the first move behind some letter is one of these."""
+    for letter in range(len(rests.row_at((0, 0))[0])):
+        behind = rests.behind((0, 0), letter)
+        if behind is not None and rests.form(behind) in forms:
+            return True
+    return False
 
 
 def are_apart_texts(move, text, other_text):
     """Whether both are texts of one length in unlike rings, which ring-rests that can be told show."""
     if not is_text(move.letters, text) or not is_text(move.letters, other_text) or len(text) != len(other_text):
         return False
-    forms = [move.rows]
+    rests = RingRests(move.rows)
+    spots = [(0, 0)]
     for sign in text[:-1]:
-        forms.append(ring_form(forms[-1], int(sign)))
-        if forms[-1] is None:
+        behind = rests.behind(spots[-1], int(sign))
+        if behind is None:
             return False
-    return times_by_forms(forms, text, other_text) is None
+        spots.append(behind)
+    return times_by_spots(rests, spots, text, other_text) is None
 
 
 def is_rotation(turn):
