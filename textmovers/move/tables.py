@@ -60,13 +60,14 @@ def first_rows(rows, groups):
 def alike_groups(rows, most):
     """For each row the number of its group of alike rows, or None if there are more than so many."""
     groups, many = numbered([turn for turn, _ in rows])
-    columns = list(zip(*[nexts for _, nexts in rows]))
+    behind = [nexts for _, nexts in rows]
+    columns = list(zip(*behind))
     ahead = 0
     # Groups are only ever cut, so too many now are too many in the end, and single rows stay single.
     while ahead < many <= most and many < len(rows):
         ahead = many
         for column in columns:
-            groups, many = numbered([group * many + groups[behind] for group, behind in zip(groups, column)])
+            groups, many = numbered([group * many + groups[place] for group, place in zip(groups, column)])
     return None if many > most else groups
 
 
