@@ -257,7 +257,7 @@ class Sums(Case):
             self.refused_with(TooMany(16), rotation_sum, machine, text)
         for text in ("000", "0101", "1111"):
             self.refused_with(TooMany(400), rotation_sum, EIGHT, text)
-        # Just 400 patterns: twenty states twice side by side are more than eight; so sums of both sizes are looked for.
+        # Sums near the bound, on both sides of it.
         sizes = {}
         for machine in rotating_machines(11, 160, (3, 4, 5, 6), (2,)):
             for text in all_texts(2, 2):
