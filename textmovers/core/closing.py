@@ -26,7 +26,7 @@ def grown_forest(machine):
     for single in firsts:
         forest.learn((single, backs[single]), 0)
     core = {}
-    news = forest.circled()
+    news = [number for number in ways if forest.is_circled(number)]
     while news:
         for number in news:
             core[number] = True
@@ -40,7 +40,7 @@ def grown_forest(machine):
             forest.learn((product, backs[step]), number)
             if product not in ways:
                 ways[product] = [*ways[number], firsts[step]]
-        news = [number for number in forest.circled() if number not in core]
+        news = [number for number in ways if forest.is_circled(number) and number not in core]
     forest.close(list(core))
     return forest, steps, ways
 

@@ -36,7 +36,7 @@ def core_paper(machine):
     check_machine(machine)
     check_quiet(machine)
     forest, steps, ways = grown_forest(machine)
-    words = [word_of(ways[number]) for number in forest.inside()]
+    words = [word_of(ways[number]) for number in forest.places()]
     return "core", tuple(words), step_depth(forest, steps)
 
 

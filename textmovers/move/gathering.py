@@ -29,9 +29,9 @@ class Gathering:
         """How many moves have numbers."""
         return len(self._table)
 
-    def circled(self):
-        """The numbers of all moves that stand behind circles."""
-        return list(self._circled)
+    def is_circled(self, number):
+        """Whether a move stands behind a circle."""
+        return number in self._circled
 
     def form(self, number):
         """The least form of a move."""
